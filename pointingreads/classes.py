@@ -41,7 +41,8 @@ def told_order(classes, moves):
     numbers = {classes[0]: 0}
     at = 0
     while at < len(order):
-        for thing in moves[order[at]]:
+        row = moves[order[at]]
+        for thing in row:
             if classes[thing] not in numbers:
                 numbers[classes[thing]] = len(order)
                 order.append(thing)

@@ -220,7 +220,8 @@ def last_parted(sieve, quiet):
     ahead = couples_ahead(lefts)
     todo = list(found)
     while todo:
-        for other, _ in ahead[todo.pop()]:
+        couple = todo.pop()
+        for other, _ in ahead[couple]:
             if other not in found:
                 found[other] = True
                 todo.append(other)

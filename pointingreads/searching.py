@@ -14,7 +14,8 @@ def explored(start, nexts, most):
     moves = []
     while len(moves) < len(order):
         found = []
-        for thing in nexts(order[len(moves)]):
+        things = nexts(order[len(moves)])
+        for thing in things:
             if thing not in numbers:
                 numbers[thing] = len(order)
                 order.append(thing)

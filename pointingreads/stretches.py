@@ -1,6 +1,6 @@
 """Parts of rows that have a period."""
 
-from pointingreads.blocks import all_marks, entry_count, first_parting, have_period, part_of
+from pointingreads.blocks import entry_count, first_parting, have_period, part_of
 from pointingreads.checks import is_whole
 from pointingreads.errors import BadNumber
 from pointingreads.places import need_border

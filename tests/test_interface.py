@@ -1,0 +1,60 @@
+"""The names, files and parameters of the interface, as far as it has landed ([3])."""
+
+import importlib
+import inspect
+import unittest
+
+INTERFACE = {
+    "rows": "need_row(row) is_row(value) need_word(word,sorts) length_of(row) flat(row) plain(word) "
+            "mark_at(row,place) window(row,place,many)",
+    "pieces": "cut_out(row,start,stop) rows_joined(row,other_row) turned_about(row)",
+    "numbered": "mark_count(row,mark,place) mark_counts(row) place_of(row,mark,number) "
+                "place_from_end(row,mark,number)",
+    "comparing": "first_unlike(row,other_row) read_alike(row,other_row) is_ahead(row,other_row) "
+                 "common_end(row,other_row)",
+    "roots": "root(row) commute(row,other_row) common_root(row,other_row)",
+    "stretches": "has_period(row,number) least_period(row) stretch_end(row,place,number) "
+                 "longest_stretch(row,number)",
+    "finding": "times_found(row,word) found_at(row,word,number)",
+    "writings": "weight(row) least_writing(row) all_writings_number(row)",
+    "readers": "reader_fault(value) is_reader(value) need_reader(reader) need_fit(reader,row) "
+               "met_stands(reader) greatest_hold(reader)",
+    "reading": "read(reader,row) point(reader,row) mark_pointed(reader,row) first_reading(reader) "
+               "go_on(reader,reading,row) end_point(reader,reading) points_along(reader,row)",
+    "tallies": "tally(reader,row) points_none(reader,row) points_newest(reader,row) "
+               "span(reader,row,place) held_longest(reader,row)",
+    "named": "reader_named(name,sorts) first_of(order,sorts) last_of(order,sorts)",
+    "sieves": "sieve_fault(value) is_sieve(value) need_sieve(sieve) need_row_for(sieve,row)",
+    "picking": "picked(sieve,row) frame(sieve,row,place) is_picked(sieve,row,place) "
+               "pick_number(sieve,row) picks_ahead(sieve,row,place) pick_at(sieve,row,number) "
+               "measure(sieve,row) measures_joined(sieve,first,second)",
+    "leastsieves": "least_sieve(sieve) are_alike_sieves(sieve,other) picks_parted(sieve,other)",
+    "combined": "both(sieve,other) either(sieve,other) but(sieve,other) just_one(sieve,other) "
+                "opposite(sieve) backwards(sieve) sieve_of_marks(sorts,marks)",
+    "climbs": "most_picks(sieve) rise(sieve) two_picks(sieve)",
+    "lookers": "is_looker(sieve) need_looker(sieve) reader_of(sieve) first_pick(sieve) "
+               "last_pick(sieve) looker_of(reader)",
+    "least": "live_words(reader) least_reader(reader) hands_needed(reader) stands_needed(reader)",
+}
+
+
+class InterfaceTest(unittest.TestCase):
+    def test_functions(self):
+        for name, listed in INTERFACE.items():
+            module = importlib.import_module("pointingreads." + name)
+            for item in listed.split():
+                function, parameters = item[:-1].split("(")
+                found = getattr(module, function)
+                self.assertTrue(inspect.isfunction(found), item)
+                self.assertEqual(found.__module__, module.__name__, item)
+                self.assertEqual(list(inspect.signature(found).parameters), parameters.split(","), item)
+
+    def test_values(self):
+        from pointingreads.named import NAMES
+        self.assertEqual(NAMES, (
+            "none", "first", "last", "second", "next to last", "third", "first or last", "new",
+            "even last", "same as first"))
+
+
+if __name__ == "__main__":
+    unittest.main()
