@@ -79,3 +79,12 @@ def give_number(ahead, found, start, number):
         if found[node] is None:
             found[node] = number
             path.extend([other for other in ahead[node] if found[other] is None])
+
+
+def behind_arrows(rights):
+    """Arrows along which a word leads from the right state ahead of it to state 0."""
+    arrows = [[] for _ in rights]
+    for state, row in enumerate(rights):
+        for mark, ahead in enumerate(row):
+            arrows[ahead].append((mark, state))
+    return arrows

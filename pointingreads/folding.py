@@ -67,7 +67,7 @@ def tidied(reader):
             for behind, keep in row
         ]))
     tidy_points = [-1 if hand < 0 else numbers[stand][hand] for stand, hand in enumerate(points)]
-    known = [tuple([row[hand] for hand in order]) for row, order in zip(hand_ranks, orders)]
+    known = [tuple([told[hand] for hand in order]) for told, order in zip(hand_ranks, orders)]
     return (sorts, [len(order) for order in orders], tidy, tidy_points), known
 
 

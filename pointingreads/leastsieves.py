@@ -1,5 +1,6 @@
 """Least sieves, and where two sieves part."""
 
+from pointingreads.borders import behind_arrows
 from pointingreads.counting import picks_in
 from pointingreads.errors import BadSorts
 from pointingreads.routes import least_routes, route
@@ -27,15 +28,6 @@ def are_alike_sieves(sieve, other):
     return least_of(sieve) == least_of(other)
 
 
-def words_behind(rights):
-    """Arrows along which a word leads from the right state ahead of it to state 0."""
-    arrows = [[] for _ in rights]
-    for state, row in enumerate(rights):
-        for mark, ahead in enumerate(row):
-            arrows[ahead].append((mark, state))
-    return arrows
-
-
 def parted_at(masks):
     """For each mark the least bit in which both masks are unlike, None if there is none."""
     found = []
@@ -49,7 +41,7 @@ def parted_word(sieve, other):
     """The least row in which two sieves that do not pick alike part."""
     left_pairs, lefts = pairs_met(sieve[1], other[1])
     right_pairs, rights = pairs_met(sieve[2], other[2])
-    arrows = words_behind(rights)
+    arrows = behind_arrows(rights)
     _, ranks = least_routes(arrows, [0])
     order = [right for _, right in sorted(zip(ranks, range(len(ranks))))]
     ranked = [right_pairs[right] for right in order]

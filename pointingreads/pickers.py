@@ -4,7 +4,7 @@ A configuration is a pair (LEFT, HOLDS): the left state, and for each right stat
 the entry that is pointed at if that right state is behind the row, or None.
 """
 
-from pointingreads.borders import border
+from pointingreads.borders import behind_arrows, border
 from pointingreads.routes import least_routes
 
 
@@ -73,11 +73,7 @@ def spread_back(sieve, marked):
 
 def word_order(rights):
     """The right states by the least words that lead to them from the end."""
-    arrows = [[] for _ in rights]
-    for state, row in enumerate(rights):
-        for mark, ahead in enumerate(row):
-            arrows[ahead].append((mark, state))
-    _, ranks = least_routes(arrows, [0])
+    _, ranks = least_routes(behind_arrows(rights), [0])
     return [right for _, right in sorted([(rank, right) for right, rank in enumerate(ranks)])]
 
 

@@ -51,7 +51,11 @@ class WritingsTest(Case):
         self.assertEqual(all_writings_number(()), 1)
         self.assertEqual(least_writing((((0,), 300),)), (((0,), 300),))
         # no block has more than 60 marks
-        self.assertEqual(all_writings_number((((0,) * 60, 1),)) > 2 ** 59, True)
+        marks = [0]
+        while len(marks) < 61:
+            marks = [mark for old in marks for mark in ((0, 1, 2), (0, 2), (1,))[old]]
+        self.assertEqual(all_writings_number(((tuple(marks[:60]), 1),)), 2 ** 59)
+        self.assertEqual(all_writings_number(((tuple(marks[:60]), 1), ((marks[60],), 1))), 2 ** 60 - 1)
         word = (0,) * 60 + (1,)
         self.assertEqual(least_writing((((0,), 60), ((1,), 1)) * 2), (((0,), 60), ((1,), 1)) * 2)
         self.assertEqual(len(word), 61)
