@@ -101,15 +101,9 @@ class BadName(ReadError):
 class NotSteady(ReadError):
     """A reader is not steady."""
 
-    def __init__(self):
-        ReadError.__init__(self, "not steady")
-
 
 class NothingBack(ReadError):
     """There is nothing to take back."""
-
-    def __init__(self):
-        ReadError.__init__(self, "nothing back")
 
 
 class TooGreat(ReadError):

@@ -15,15 +15,16 @@ def root(row):
     size = entry_count(row)
     if size == 0:
         return (0, 1)
-    # a longer root is done at most so often, so these are all roots there can be
+    # a longer root is done at most so often, so these are all roots there can be; the least
+    # length comes first, and the whole row has the period of its own length
     lengths = [length for length in range(1, LONGEST_ROOT + 1) if size % length == 0]
     for times in range(MOST_ROOTS, 0, -1):
         if size % times == 0 and size // times > LONGEST_ROOT:
             lengths.append(size // times)
-    for length in lengths:
-        if have_period(row, length):
-            return (length, size // length)
-    return (size, 1)
+    at = 0
+    while not have_period(row, lengths[at]):
+        at += 1
+    return (lengths[at], size // lengths[at])
 
 
 def rows_commute(row, other_row):

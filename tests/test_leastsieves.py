@@ -165,6 +165,8 @@ class PartedTest(Case):
         for function in (are_alike_sieves, picks_parted, both, either, but, just_one):
             self.refuses(BadSieve, {"word": "form"}, function, None, 3)
             self.refuses(BadSieve, {"word": "form"}, function, one, 3)
+            self.refuses(BadSieve, {"word": "left"}, function, (3, ((1, 0, 0),)) + two[2:], None)
+            self.refuses(BadSieve, {"word": "left"}, function, (3, ((1, 0, 0),)) + two[2:], two)
             self.refuses(BadSieve, {"word": "left"}, function, one, (3, ((1, 0, 0),)) + two[2:])
             self.refuses(BadSorts, {"value": 3}, function, one, two)
             self.refuses(BadSorts, {"value": 2}, function, two, one)
