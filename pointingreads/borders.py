@@ -60,8 +60,8 @@ def circles(arrows):
     """
     ahead = [[] for _ in arrows]
     for node, row in enumerate(arrows):
-        for _, behind, _ in row:
-            ahead[behind].append(node)
+        for arrow in row:
+            ahead[arrow[1]].append(node)
     found = [None] * len(arrows)
     many = 0
     for start in reversed(finished(arrows)):

@@ -39,7 +39,9 @@ WORDS = (
     "TYPE_CHECKING", "abstractmethod", "register", "mro", "elements", "open", "input", "law",
     "version_info", "with_traceback", "add_note", "global")
 ITERATED = ("zip", "enumerate", "reversed", "range", "items", "keys", "values", "map")
-TAKERS = ("list", "tuple", "dict", "sorted", "sum", "any", "all", "enumerate", "zip", "min", "max")
+TAKERS = (
+    "list", "tuple", "dict", "sorted", "sum", "any", "all", "enumerate", "zip", "min", "max",
+    "combinations", "permutations")
 
 
 def files():

@@ -1,0 +1,24 @@
+"""How a word makes a reader point, seen from ahead of the word."""
+
+from pointingreads.walking import walked
+
+
+def word_sign(reader, stand, word):
+    """What is pointed at behind a word that is read from a stand.
+
+    None; or a number of the word's entries; or -1 less the hand of the stand that holds it.
+    """
+    old = tuple([-1 - hand for hand in range(reader[1][stand])])
+    behind, places = walked(reader[2], stand, old, word, 0)
+    hand = reader[3][behind]
+    return None if hand < 0 else places[hand]
+
+
+def is_old(sign):
+    """Whether a sign tells an entry from ahead of the word."""
+    return sign is not None and sign < 0
+
+
+def are_unlike_signs(sign, other):
+    """Whether two signs from unlike stands are unlike whatever these hold."""
+    return not (is_old(sign) and is_old(other)) and sign != other
