@@ -4,6 +4,8 @@ import itertools
 import random
 import unittest
 
+from pointingreads import errors
+
 GREAT = 10 ** 30
 
 
@@ -75,6 +77,57 @@ def chance_reader(rng, sorts, stands, hands):
     return (sorts, held, tuple(steps), tuple(rng.randint(-1, many - 1) for many in held))
 
 
+def holding_reader(rng, sorts, stands, hands):
+    """A chance reader that keeps much of what it holds."""
+    held = (0,) + tuple(rng.randint(1, hands) for _ in range(stands - 1))
+    steps = []
+    for stand in range(stands):
+        row = []
+        for _ in range(sorts):
+            there = [to for to in range(stands) if held[to] <= held[stand] + 1]
+            to = rng.choices(there, [(1 + held[to]) ** 3 for to in there])[0]
+            keep = rng.sample(range(held[stand]), min(held[stand], held[to]))
+            if len(keep) < held[to]:
+                keep.append(-1)
+            elif keep and rng.random() < 0.25:
+                keep[0] = -1
+            rng.shuffle(keep)
+            row.append((to, tuple(keep)))
+        steps.append(tuple(row))
+    return (sorts, held, tuple(steps), tuple(rng.randint(-1, many - 1) for many in held))
+
+
+def mixed(rng, reader):
+    """A reader that is alike: its stands and hands are numbered in another way."""
+    sorts, held, steps, points = reader
+    order = [0] + rng.sample(range(1, len(held)), len(held) - 1)
+    hands = [rng.sample(range(many), many) for many in held]
+    told = []
+    for stand in order:
+        told.append(tuple(
+            (order.index(to), tuple(
+                -1 if keep[hand] < 0 else hands[stand].index(keep[hand]) for hand in hands[to]))
+            for to, keep in steps[stand]))
+    ends = tuple(-1 if points[stand] < 0 else hands[stand].index(points[stand]) for stand in order)
+    return (sorts, tuple(held[stand] for stand in order), tuple(told), ends)
+
+
+def chance_pair(rng, most_sorts, stands, hands):
+    """Two readers with the same sorts; some are alike, some nearly so."""
+    sorts = rng.randint(1, most_sorts)
+    make = rng.choice((chance_reader, holding_reader))
+    reader = make(rng, sorts, rng.randint(1, stands), rng.randint(1, hands))
+    kind = rng.randrange(4)
+    if kind == 0:
+        return reader, mixed(rng, reader)
+    if kind == 1:
+        stand = rng.randrange(len(reader[1]))
+        points = list(reader[3])
+        points[stand] = rng.randint(-1, reader[1][stand] - 1)
+        return reader, mixed(rng, reader[:3] + (tuple(points),))
+    return reader, make(rng, sorts, rng.randint(1, stands), rng.randint(1, hands))
+
+
 def chance_table(rng, sorts, states):
     return tuple(tuple(rng.randrange(states) for _ in range(sorts)) for _ in range(states))
 
@@ -100,6 +153,32 @@ def slow_point(reader, marks):
     stand, places = slow_reading(reader, marks)
     hand = reader[3][stand]
     return None if hand == -1 else places[hand]
+
+
+def slow_pattern(reader, other, marks):
+    stand, places = slow_reading(reader, marks)
+    other_stand, other_places = slow_reading(other, marks)
+    return (stand, other_stand, tuple(
+        (places.index(place) if place in places else -1,
+         other_places.index(place) if place in other_places else -1)
+        for place in sorted(set(places) | set(other_places))))
+
+
+def slow_relation(reader, other, marks):
+    place, other_place = slow_point(reader, marks), slow_point(other, marks)
+    if place is None:
+        return "none" if other_place is None else "second"
+    if other_place is None:
+        return "first"
+    if place == other_place:
+        return "same"
+    return "ahead" if place < other_place else "behind"
+
+
+def slow_view(reader, other, marks):
+    places = (slow_point(reader, marks), slow_point(other, marks))
+    return (slow_relation(reader, other, marks),) + tuple(
+        None if place is None else marks[place] for place in places)
 
 
 def slow_frame(sieve, marks, place):
@@ -143,7 +222,46 @@ def sieve_by(sorts, left, right, truth):
         for one in range(len(left))))
 
 
+# readers of two marks and of one, and spoilt ones with their faults
+FIRST = (2, (0, 1), (((1, (-1,)), (0, ())), ((1, (0,)), (1, (0,)))), (-1, 0))
+LAST = (2, (0, 1), (((1, (-1,)), (1, (-1,))), ((1, (-1,)), (1, (-1,)))), (-1, 0))
+ONE_SORT = (1, (0, 1), (((1, (-1,)),), ((1, (-1,)),)), (-1, 0))
+SPOILT = (
+    (None, ("form", None)), ([], ("form", None)), ((True,) + FIRST[1:], ("form", None)),
+    ((2, (1, 1)) + FIRST[2:], ("held", 0)), ((2, (False, 1)) + FIRST[2:], ("held", 0)),
+    (FIRST[:2] + (FIRST[2][:1] + (((1, (1,)), (1, (0,))),),) + FIRST[3:], ("steps", 1)),
+    (FIRST[:3] + ((-1, 1),), ("points", 1)), (FIRST[:3] + ((-1, False),), ("points", 1)))
+# values that are no row of two marks, and the places of their errors
+NO_ROWS = (
+    (None, None), ([], None), ((((0,), 1),) * 61, None), ((((0,), 1), ((4,), 1)), 1), ((((0,), True),), 0),
+    ((((False,), 1),), 0), (((), ((0,), 1)), 0), ((((0, 1), 2), ((0, 2), 1)), 1))
+
+
 class Case(unittest.TestCase):
+    def refuses_readers(self, function, *rest):
+        """What is no reader is refused, whatever stands behind it."""
+        for value, (word, stand) in SPOILT:
+            for others in (rest, (None,) * len(rest)):
+                self.refuses(errors.BadReader, {"word": word, "stand": stand}, function, value, *others)
+
+    def refuses_two(self, function, *rest):
+        """What is no pair of readers with the same sorts is refused, whatever stands behind them."""
+        for others in (rest, (None,) * len(rest)):
+            for value, (word, stand) in SPOILT:
+                fields = {"word": word, "stand": stand}
+                self.refuses(errors.BadReader, fields, function, value, LAST, *others)
+                self.refuses(errors.BadReader, fields, function, value, ONE_SORT, *others)
+                self.refuses(errors.BadReader, fields, function, value, None, *others)
+                self.refuses(errors.BadReader, fields, function, FIRST, value, *others)
+            self.refuses(errors.BadSorts, {"value": 1}, function, FIRST, ONE_SORT, *others)
+            self.refuses(errors.BadSorts, {"value": 2}, function, ONE_SORT, FIRST, *others)
+
+    def refuses_rows(self, function, *ahead, behind=()):
+        """What is no row of two marks is refused, whatever stands behind it."""
+        for value, place in NO_ROWS:
+            for others in (behind, (None,) * len(behind)):
+                self.refuses(errors.BadRow, {"place": place}, function, *ahead, value, *others)
+
     def refuses(self, error, fields, function, *args, **named):
         """The call raises just this error, with these fields (a dict)."""
         with self.assertRaises(error) as caught:

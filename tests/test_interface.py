@@ -34,6 +34,24 @@ INTERFACE = {
     "climbs": "most_picks(sieve) rise(sieve) two_picks(sieve)",
     "lookers": "is_looker(sieve) need_looker(sieve) reader_of(sieve) first_pick(sieve) "
                "last_pick(sieve) looker_of(reader)",
+    "records": "records_of(reader) candidates_of(reader)",
+    "patterns": "pattern_of(reader,other,row) next_pattern(reader,other,pattern,mark) "
+                "patterns(reader,other) pattern_row(reader,other,pattern)",
+    "relations": "relation_in(reader,other,row) relations(reader,other) "
+                 "relation_row(reader,other,word) is_always(reader,other,words) "
+                 "row_against(reader,other,words)",
+    "likes": "are_alike(reader,other) parting_row(reader,other) likeness_paper(reader,other) "
+             "need_likeness_paper(reader,other,paper)",
+    "holding": "one_hands(reader,other) is_kept(reader,other) row_unkept(reader,other) "
+               "is_covered(reader,other) row_uncovered(reader,other)",
+    "views": "view_in(reader,other,row) views(reader,other) view_row(reader,other,view)",
+    "gaps": "gap_in(reader,other,row) gap_comes(reader,other,number) gap_row(reader,other,number) "
+            "gap_ends(reader,other) gap_sides(reader,other)",
+    "needs": "hands_paper(reader) is_hands_paper(reader,paper) stands_paper(reader) "
+             "is_stands_paper(reader,paper)",
+    "renumbered": "renumbered(reader,order,hands) renaming(reader,other)",
+    "plenty": "all_readers(sorts,stands) rows_to(reader,number,modulus) "
+              "rows_none(reader,number,modulus) places_hit(reader,number)",
     "least": "live_words(reader) least_reader(reader) hands_needed(reader) stands_needed(reader)",
 }
 
@@ -54,6 +72,8 @@ class InterfaceTest(unittest.TestCase):
         self.assertEqual(NAMES, (
             "none", "first", "last", "second", "next to last", "third", "first or last", "new",
             "even last", "same as first"))
+        from pointingreads.relations import RELATIONS
+        self.assertEqual(RELATIONS, ("none", "first", "second", "same", "ahead", "behind"))
 
 
 if __name__ == "__main__":
