@@ -47,13 +47,13 @@ def way_round(trails, node, many, rest):
 
     A list of pairs (mark, inner course), the first one with the mark None; None without a way.
     """
-    reached = [(start, 0, start == node) for start in trails.starts]
+    reached = [(start, 0, start == node) for start in trails.first_arrows]
     ahead = {one: None for one in reached}
     at = 0
     while at < len(reached):
         one = reached[at]
         place, count, passed = one
-        if passed and count == rest and place in trails.stops:
+        if passed and count == rest and place in trails.last_arrows:
             way = []
             while ahead[one] is not None:
                 mark, before = ahead[one]
@@ -61,7 +61,7 @@ def way_round(trails, node, many, rest):
                 one = before
             way.append((None, one[0]))
             return way[::-1]
-        for mark, behind in trails.nexts[place]:
+        for mark, behind in trails.leads[place]:
             thing = (behind, (count + 1) % many, passed or behind == node)
             if thing not in ahead:
                 ahead[thing] = (mark, one)
@@ -87,16 +87,16 @@ def round_row(trails, node, word, many):
 
 def direct_row(trails, many):
     """A row with so many arrows between both points that is told mark by mark, or None."""
-    layers = [{start: None for start in trails.starts}]
+    layers = [{start: None for start in trails.first_arrows}]
     for _ in range(many):
         behind = {}
         layer = layers[-1]
         for node in layer:
-            for mark, place in trails.nexts[node]:
+            for mark, place in trails.leads[node]:
                 if place not in behind:
                     behind[place] = (mark, node)
         layers.append(behind)
-    ends = [node for node in layers[-1] if node in trails.stops]
+    ends = [node for node in layers[-1] if node in trails.last_arrows]
     if ends == []:
         return None
     node = ends[0]
@@ -109,11 +109,11 @@ def direct_row(trails, many):
 
 def row_with(trails, many):
     """A row with so many arrows between both points, None if none with few blocks is found."""
-    if many <= MOST_DIRECT and many * len(trails.nexts) <= MOST_STORED:
+    if many <= MOST_DIRECT and many * len(trails.leads) <= MOST_STORED:
         found = direct_row(trails, many)
         if found is not None and len(found) <= MOST_BLOCKS:
             return found
-    for node, word in circles_tried(trails.nexts):
+    for node, word in circles_tried(trails.leads):
         found = round_row(trails, node, word, many)
         if found is not None and len(found) <= MOST_BLOCKS:
             return found

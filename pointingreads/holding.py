@@ -37,7 +37,7 @@ def word_unheld(reader, other, is_asked):
     """
     steps, other_steps = hand_steps(reader), hand_steps(other)
     found = least_words(
-        BEGIN,
+        [BEGIN],
         lambda one: held_nexts(reader[0], steps, other_steps, one),
         lambda one: one[2] >= 0 and one[3] < 0 and is_asked(one[0], one[2]),
         [True])

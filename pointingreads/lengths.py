@@ -76,7 +76,7 @@ class Lengths:
     """
 
     def __init__(self, nexts, starts, ends):
-        self.nexts = nexts
+        self.leads = nexts
         self.rests = rests_told(nexts, starts)
         self.ends = {node: True for node in ends}
         self.end_rests = []
@@ -105,9 +105,9 @@ class Lengths:
         # once the ends of ways are as the rests tell, they are so for all greater numbers
         if many & (many - 1) == 0:
             known = {node: True for node in layer}
-            alike = [(node in known) == self.is_told(node, many) for node in range(len(self.nexts))]
+            alike = [(node in known) == self.is_told(node, many) for node in range(len(self.leads))]
             self.steady = all(alike)
-        self.layer = list({behind: True for node in layer for behind in self.nexts[node]})
+        self.layer = list({behind: True for node in layer for behind in self.leads[node]})
 
     def has(self, many):
         """Whether a way has so many arrows."""
@@ -117,7 +117,7 @@ class Lengths:
 
     def least(self):
         """The least number of arrows, None if there is no way."""
-        if self.nexts == []:
+        if self.leads == []:
             return None
         many = 0
         while not self.has(many):
@@ -126,7 +126,7 @@ class Lengths:
 
     def greatest(self):
         """The greatest number of arrows, None if there is none."""
-        if self.nexts == [] or self.end_rests != []:
+        if self.leads == [] or self.end_rests != []:
             return None
         while not self.steady:
             self.grow()

@@ -35,17 +35,17 @@ def word_to(ahead, at):
     return tuple(word[::-1])
 
 
-def least_words(start, nexts, name, wanted):
-    """The least words that lead from the start to things with the wanted names.
+def least_words(starts, nexts, name, wanted):
+    """The least words that lead from the starts to things with the wanted names.
 
     nexts(thing) tells for each mark the things to which it leads, none, one or several;
     name(thing) tells the name of a thing. A dict from the names that are reached.
     """
     found = {}
     # a group has the things with one and the same least word; groups come by these words
-    groups = [[start]]
+    groups = [list(starts)]
     ahead = [None]
-    seen = {start: True}
+    seen = {start: True for start in starts}
     at = 0
     while at < len(groups):
         group = groups[at]

@@ -13,7 +13,7 @@ class Forward:
     """The patterns behind rows, the least rows first."""
 
     def __init__(self, begin, nexts):
-        self.nexts = nexts
+        self.follow = nexts
         self.order = [begin]
         self.ahead = [None]
         self.seen = {begin: 0}
@@ -26,8 +26,9 @@ class Forward:
     def grow(self):
         """Goes one mark further."""
         last = len(self.order)
+        nexts = self.follow
         while self.done < last:
-            things = self.nexts(self.order[self.done])
+            things = nexts(self.order[self.done])
             for mark, thing in enumerate(things):
                 if thing not in self.seen:
                     self.seen[thing] = len(self.order)

@@ -27,12 +27,12 @@ class Trails:
         ]
         self.numbers = {at: number for number, at in enumerate(self.inner)}
         # for each inner course, by its number, the inner ones behind it: pairs (mark, number)
-        self.nexts = [
+        self.leads = [
             [(mark, self.numbers[behind]) for mark, behind in arrows[at] if behind in self.numbers]
             for at in self.inner
         ]
-        self.starts = self.starting()
-        self.stops = self.stopping()
+        self.first_arrows = self.starting()
+        self.last_arrows = self.stopping()
 
     def starting(self):
         """For each inner course that begins an arrow to it: a pair of a course and a mark."""
@@ -55,17 +55,17 @@ class Trails:
 
     def lengths(self):
         """The numbers of entries between both points that come."""
-        nexts = [list({number: True for _, number in row}) for row in self.nexts]
-        return Lengths(nexts, list(self.starts), list(self.stops))
+        nexts = [list({number: True for _, number in row}) for row in self.leads]
+        return Lengths(nexts, list(self.first_arrows), list(self.last_arrows))
 
     def first_word(self, number):
         """A word to an inner course, up to the entry at which the first reader points."""
-        at, mark = self.starts[number]
+        at, mark = self.first_arrows[number]
         return word_to(self.ahead, at) + (mark,)
 
     def last_word(self, number):
         """A word from an inner course to the end, from the entry of the other reader on."""
-        mark, at = self.stops[number]
+        mark, at = self.last_arrows[number]
         word = [mark]
         while self.far[at] > 0:
             mark, at = min([

@@ -108,12 +108,12 @@ class Courses:
 def relation_words(reader, other, wanted):
     """The least rows with the wanted relations, as far as they come: a dict."""
     courses = Courses(folded(reader), folded(other), False)
-    return least_words(START, courses.nexts, courses.relation, wanted)
+    return least_words([START], courses.nexts, courses.relation, wanted)
 
 
 def word_against(reader, other, words):
     """The least row with a relation that is not among some, or None."""
     courses = Courses(folded(reader), folded(other), False)
     rest = [way for way in WAYS if way not in words]
-    found = least_words(START, courses.nexts, lambda course: courses.relation(course) in rest, [True])
+    found = least_words([START], courses.nexts, lambda course: courses.relation(course) in rest, [True])
     return found.get(True)

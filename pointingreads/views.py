@@ -35,7 +35,7 @@ def is_view(value, sorts):
 def view_words(reader, other, wanted):
     """The least rows with the wanted views, as far as they come: a dict."""
     courses = Courses(folded(reader), folded(other), True)
-    return least_words(START, courses.nexts, courses.view, wanted)
+    return least_words([START], courses.nexts, courses.view, wanted)
 
 
 def view_in(reader, other, row):
