@@ -4,10 +4,9 @@ from pointingreads.checks import is_tuple, is_whole
 from pointingreads.errors import BadPaper
 from pointingreads.folding import folded
 from pointingreads.patterns import FIRST_PATTERN, MOST_PATTERNS, is_pattern, pattern_behind, patterns_told
-from pointingreads.reading import place_in_hand
 from pointingreads.rows import MOST_WORD
+from pointingreads.signs import word_point
 from pointingreads.twofold import need_two, word_against
-from pointingreads.walking import walked
 
 ALIKE = ("none", "same")
 
@@ -38,12 +37,6 @@ def likeness_paper(reader, other):
     if word is not None:
         return ("apart", word)
     return ("alike", patterns_told(reader, other, MOST_PATTERNS))
-
-
-def word_point(reader, word):
-    """The point of a word."""
-    stand, places = walked(reader[2], 0, (), word, 0)
-    return place_in_hand(places, reader[3][stand])
 
 
 def point_alike(reader, other, pattern):

@@ -4,15 +4,8 @@ from pointingreads.folding import folded
 from pointingreads.ranked import ranking_told
 from pointingreads.readers import need_reader
 from pointingreads.searching import least_words
+from pointingreads.signs import word_point
 from pointingreads.twofold import hand_steps
-from pointingreads.walking import walked
-
-
-def word_point(reader, word):
-    """The point of a word."""
-    stand, places = walked(reader[2], 0, (), word, 0)
-    hand = reader[3][stand]
-    return None if hand < 0 else places[hand]
 
 
 class Halves:

@@ -1,7 +1,7 @@
 """Readers of rankings, and the rankings of readers."""
 
 from pointingreads.folding import folded
-from pointingreads.walking import walked
+from pointingreads.signs import word_point
 
 
 def rank_numbers(ranking):
@@ -29,16 +29,9 @@ def ranking_reader(ranking, sorts):
     return folded((sorts, (0,) + (1,) * many, tuple(steps), (-1,) + (0,) * many))
 
 
-def pair_point(reader, mark, other):
-    """The point of a row of two marks."""
-    stand, places = walked(reader[2], 0, (), (mark, other), 0)
-    hand = reader[3][stand]
-    return None if hand < 0 else places[hand]
-
-
 def is_better(reader, mark, other):
     """Whether a mark is the best one of two, in either order."""
-    return pair_point(reader, mark, other) == 0 and pair_point(reader, other, mark) == 1
+    return word_point(reader, (mark, other)) == 0 and word_point(reader, (other, mark)) == 1
 
 
 def ranking_told(reader):
@@ -50,7 +43,7 @@ def ranking_told(reader):
         better = len([other for other in marks if is_better(least, other, mark)])
         ranks.setdefault(better, []).append(mark)
     found = tuple([
-        ("first" if pair_point(least, ranks[better][0], ranks[better][0]) == 0 else "last", tuple(ranks[better]))
+        ("first" if word_point(least, (ranks[better][0],) * 2) == 0 else "last", tuple(ranks[better]))
         for better in sorted(ranks)
     ])
     # short rows tell which ranking it could be, the least reader whether it is

@@ -22,3 +22,9 @@ def is_old(sign):
 def are_unlike_signs(sign, other):
     """Whether two signs from unlike stands are unlike whatever these hold."""
     return not (is_old(sign) and is_old(other)) and sign != other
+
+
+def word_point(reader, word):
+    """The point of a word."""
+    # stand 0 has no hands, so what is pointed at is an entry of the word
+    return word_sign(reader, 0, word)

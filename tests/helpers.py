@@ -5,6 +5,7 @@ import random
 import unittest
 
 from pointingreads import errors
+from pointingreads.least import hands_needed
 
 GREAT = 10 ** 30
 
@@ -97,6 +98,15 @@ def holding_reader(rng, sorts, stands, hands):
     return (sorts, held, tuple(steps), tuple(rng.randint(-1, many - 1) for many in held))
 
 
+def keen_reader(rng, sorts, stands, hands):
+    """A chance reader, most often one that hands on more than one entry of a row."""
+    for _ in range(20):
+        reader = holding_reader(rng, sorts, rng.randint(2, stands), hands)
+        if hands_needed(reader) > 1:
+            return reader
+    return chance_reader(rng, sorts, stands, hands)
+
+
 def mixed(rng, reader):
     """A reader that is alike: its stands and hands are numbered in another way."""
     sorts, held, steps, points = reader
@@ -181,6 +191,64 @@ def slow_view(reader, other, marks):
         None if place is None else marks[place] for place in places)
 
 
+def slow_behaviour(reader, marks):
+    """The behaviour of a word, and the places of the entries that come."""
+    numbers = {}
+    found = []
+    for stand, many in enumerate(reader[1]):
+        behind, places = slow_reading(reader, marks, stand, tuple(-1 - hand for hand in range(many)))
+        hold = []
+        for place in places:
+            if place < 0:
+                hold.append(-1 - place)
+            else:
+                hold.append(-1 - numbers.setdefault(place, len(numbers)))
+        found.append((behind, tuple(hold)))
+    return tuple(found), tuple(numbers)
+
+
+def all_changes(kind, length, sorts):
+    """All changes of one kind that a row of a length has."""
+    places = range(length + {"lost": 0, "put": 1, "turned": -1, "marked": 0}[kind])
+    if kind in ("lost", "turned"):
+        return [(kind, place) for place in places]
+    return [(kind, place, mark) for place in places for mark in range(sorts)]
+
+
+def slow_changed(marks, change):
+    """The entries behind a change, as pairs of a name and a mark, and what those of the change are called."""
+    entries = list(enumerate(marks))
+    kind, place = change[0], change[1]
+    if kind == "lost":
+        return entries[:place] + entries[place + 1:], {place: "it"}
+    if kind == "put":
+        return entries[:place] + [("new", change[2])] + entries[place:], {"new": "it"}
+    if kind == "marked":
+        return entries[:place] + [(place, change[2])] + entries[place + 1:], {place: "it"}
+    turned = [entries[place + 1], entries[place]]
+    return entries[:place] + turned + entries[place + 2:], {place: "left", place + 1: "right"}
+
+
+def slow_outcome(reader, marks, change):
+    entries, names = slow_changed(marks, change)
+    before = slow_point(reader, marks)
+    after = slow_point(reader, tuple(mark for _, mark in entries))
+    after = None if after is None else entries[after][0]
+    told = "none" if after is None else names.get(after, "same" if after == before else "other")
+    return ("none" if before is None else names.get(before, "other"), told)
+
+
+def seen_point(reader, ahead, marks, behind):
+    """In which of three words the point is, and where there."""
+    place = slow_point(reader, ahead + marks + behind)
+    if place is None:
+        return None
+    if place < len(ahead):
+        return ("ahead", place)
+    place -= len(ahead)
+    return ("row", place) if place < len(marks) else ("behind", place - len(marks))
+
+
 def slow_frame(sieve, marks, place):
     left = right = 0
     for mark in marks[:place]:
@@ -255,6 +323,11 @@ class Case(unittest.TestCase):
                 self.refuses(errors.BadReader, fields, function, FIRST, value, *others)
             self.refuses(errors.BadSorts, {"value": 1}, function, FIRST, ONE_SORT, *others)
             self.refuses(errors.BadSorts, {"value": 2}, function, ONE_SORT, FIRST, *others)
+
+    def refuses_fit(self, function, *rest):
+        """What is no reader and what is no row for it is refused, whatever stands behind."""
+        self.refuses_readers(function, (), *rest)
+        self.refuses_rows(function, FIRST, behind=rest)
 
     def refuses_rows(self, function, *ahead, behind=()):
         """What is no row of two marks is refused, whatever stands behind it."""

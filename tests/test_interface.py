@@ -52,6 +52,24 @@ INTERFACE = {
     "renumbered": "renumbered(reader,order,hands) renaming(reader,other)",
     "plenty": "all_readers(sorts,stands) rows_to(reader,number,modulus) "
               "rows_none(reader,number,modulus) places_hit(reader,number)",
+    "behaviours": "behaviour(reader,row) need_behaviour(reader,value) "
+                  "behaviours_joined(reader,value,other_value)",
+    "surroundings": "handed_on(reader,row) stand_for(reader,row,other_row) "
+                    "rows_parted(reader,row,other_row) is_rows_parting(reader,row,other_row,value)",
+    "kinds": "part_kinds(reader) kind_of(reader,row) kind_product(reader,number,other_number) "
+             "width(reader) idle_word(reader) forgetting_word(reader)",
+    "summaries": "summary(reader,row) need_summary(reader,value) "
+                 "summaries_merged(reader,value,other_value) summary_often(reader,value,times) "
+                 "tree_summary(reader,tree) summary_point(reader,value)",
+    "runs": "long_run(reader,row,part,other_row)",
+    "merging": "unmerged(reader)",
+    "changes": "need_change(row,change) changed(row,change) place_behind(row,change,place) "
+               "place_ahead(row,change,place) taking_back(row,change)",
+    "outcomes": "outcome(reader,row,change)",
+    "outlooks": "outlook(reader,kind) least_outcome(reader,kind,pair)",
+    "rankings": "need_ranking(ranking,sorts) ranking_point(ranking,row) "
+                "reader_of_ranking(ranking,sorts) all_rankings(sorts) ranking_number(number) "
+                "ranking_else(ranking,other_ranking)",
     "least": "live_words(reader) least_reader(reader) hands_needed(reader) stands_needed(reader)",
 }
 
@@ -74,6 +92,8 @@ class InterfaceTest(unittest.TestCase):
             "even last", "same as first"))
         from pointingreads.relations import RELATIONS
         self.assertEqual(RELATIONS, ("none", "first", "second", "same", "ahead", "behind"))
+        from pointingreads.changes import KINDS
+        self.assertEqual(KINDS, ("lost", "put", "turned", "marked"))
 
 
 if __name__ == "__main__":
