@@ -35,6 +35,8 @@ def least_outcome(reader, kind, pair):
     check_kind(kind)
     if not (is_tuple(pair, 2, 2) and all([type(name) == str for name in pair])):
         return None
+    if pair not in outcomes_known(kind):
+        return None
     word = outcome_words(reader, kind, [pair]).get(pair)
     if word is None:
         return None

@@ -33,17 +33,25 @@ def joined_rest(divisor, rest, other, other_rest):
     return rest
 
 
+def rests_left(divisor, rest, other, mask):
+    """The rests modulo other, without those of the mask, of numbers that leave one rest."""
+    step = gcd(divisor, other)
+    return [left for left in range(rest % step, other, step) if mask >> left & 1 == 0]
+
+
 def are_all_among(divisor, rest, rests):
     """Whether all numbers that leave one rest leave one of the rests."""
     if rests == []:
         return False
-    other, mask = rests[0]
-    step = gcd(divisor, other)
-    for other_rest in range(rest % step, other, step):
-        if mask >> other_rest & 1 == 0:
-            joined = joined_rest(divisor, rest, other, other_rest)
-            if not are_all_among(lcm(divisor, other), joined, rests[1:]):
-                return False
+    # the divisor with the fewest rests left is looked at first; with none left nothing is
+    ways = [rests_left(divisor, rest, other, mask) for other, mask in rests]
+    many = [len(way) for way in ways]
+    at = many.index(min(many))
+    other = rests[at][0]
+    others = rests[:at] + rests[at + 1:]
+    for left in ways[at]:
+        if not are_all_among(lcm(divisor, other), joined_rest(divisor, rest, other, left), others):
+            return False
     return True
 
 

@@ -1,17 +1,23 @@
 """How a word makes a reader point, seen from ahead of the word."""
 
-from pointingreads.walking import walked
-
 
 def word_sign(reader, stand, word):
     """What is pointed at behind a word that is read from a stand.
 
     None; or a number of the word's entries; or -1 less the hand of the stand that holds it.
     """
-    old = tuple([-1 - hand for hand in range(reader[1][stand])])
-    behind, places = walked(reader[2], stand, old, word, 0)
-    hand = reader[3][behind]
-    return None if hand < 0 else places[hand]
+    keeps = []
+    for mark in word:
+        stand, keep = reader[2][stand][mark]
+        keeps.append(keep)
+    hand = reader[3][stand]
+    if hand < 0:
+        return None
+    for place in range(len(word) - 1, -1, -1):
+        hand = keeps[place][hand]
+        if hand < 0:
+            return place
+    return -1 - hand
 
 
 def is_old(sign):

@@ -131,6 +131,8 @@ class GapsTest(Case):
         self.assertEqual(gap_ends(last, reader_named("next to last", 2)), (-1, -1))
         self.assertEqual(gap_sides(last, reader_named("next to last", 2)), (False, (1, 1, ()), (2, 1, (1,))))
         self.assertIsNone(gap_ends(last, reader_named("none", 2)))
+        self.assertEqual(gap_ends(reader_named("third", 2), first), (-2, -2))
+        self.assertEqual(gap_ends(first, reader_named("third", 2)), (2, 2))
         even = reader_named("even last", 2)
         self.assertEqual(gap_sides(first, even), (True, (1, 2, (2,)), (1, 1, ())))
         self.assertEqual(gap_ends(reader_named("third", 2), even), (0, None))
@@ -170,6 +172,27 @@ class GapsTest(Case):
                     self.assertIs(is_row(row), True)
                     self.assertEqual(gap_in(first, reader, row), gap)
         self.assertEqual(gap_in(first, rounds((99, 100)), gap_row(first, rounds((99, 100)), 9900)), 9900)
+
+    def test_rounds_that_are_no_blocks(self):
+        # a round of 61 marks can't be done again and again, one of 60 can
+        for many, fits in ((60, True), (61, False)):
+            marks = (0,) * (many - 1) + (1,)
+            steps = [((1, (-1,)),) * 2]
+            for place, mark in enumerate(marks):
+                on, lost = (1 + (place + 1) % many, (0,)), (0, ())
+                steps.append((on, lost) if mark == 0 else (lost, on))
+            # the one points at the entry ahead of all rounds, the other one at the last of the last round
+            holds = (2, (0,) + (1,) * many, tuple(steps), (-1,) + (0,) * many)
+            steps[many] = ((0, ()), (1, (-1,)))
+            other = holds[:2] + (tuple(steps),) + holds[3:]
+            self.assertEqual(gap_in(holds, other, gap_row(holds, other, 3 * many)), 3 * many)
+            self.assertIs(gap_comes(holds, other, many * 10 ** 25), True)
+            self.assertIs(gap_comes(holds, other, many * 10 ** 25 + 1), False)
+            if fits:
+                row = gap_row(holds, other, many * 10 ** 25)
+                self.assertEqual(gap_in(holds, other, row), many * 10 ** 25)
+            else:
+                self.refuses(TooGreat, {"most": 60}, gap_row, holds, other, many * 10 ** 25)
 
     def test_errors(self):
         self.refuses_two(gap_in, ())

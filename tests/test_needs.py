@@ -113,6 +113,18 @@ class NeedsTest(Case):
         self.assertIs(is_stands_paper(mixed_up, (((0, 0), (0, 0)), (("two", (), (0,)),))), False)
         self.assertIs(is_stands_paper(mixed_up, (((0, 0), (0, 0, 0)), (("two", (0,), (0,)),))), False)
 
+    def test_stands_that_part_by_what_is_turned_alone(self):
+        # two stands alike but for what the mark 1 does with the hands; it is seen two marks later
+        same, turned = (0, 1), (1, 0)
+        reader = (2, (0, 1, 2, 2, 2, 2), (
+            ((1, (-1,)), (1, (-1,))), ((2, (0, -1)), (3, (0, -1))), ((4, same), (4, same)), ((4, same), (4, turned)),
+            ((5, same), (5, turned)), ((5, same), (5, same))), (-1, -1, -1, -1, -1, 0))
+        self.assertEqual(stands_needed(reader), 6)
+        paper = stands_paper(reader)
+        self.assertEqual(len(paper[0]), 6)
+        self.assertIs(slow_stands(reader, paper), True)
+        self.assertIs(is_stands_paper(reader, paper), True)
+
     def test_named_readers(self):
         for name in NAMES:
             for sorts in (1, 3):

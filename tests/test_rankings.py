@@ -11,8 +11,8 @@ from pointingreads.ranked import ranking_told
 from pointingreads.rankings import (
     all_rankings, need_ranking, ranking_else, ranking_number, ranking_point, reader_of_ranking)
 from tests.helpers import (
-    FIRST, GREAT, LAST, NO_INTEGERS, OTHERS, Case, chance, chance_reader, chance_row, holding_reader, marks_of,
-    mixed, slow_point, words)
+    FIRST, GREAT, LAST, NO_INTEGERS, OTHERS, Case, chance, chance_reader, chance_row, holding_reader, keen_reader,
+    marks_of, mixed, slow_point, words)
 
 NO_ROWS = ((None, None), ((((0,), 1),) * 61, None), ((((0,), 1), ((4,), 1)), 1), ((((0,), True),), 0))
 
@@ -169,10 +169,10 @@ class MergingTest(Case):
 
     def test_against_slow(self):
         rng = chance(474)
-        for number in range(300):
+        for number in range(400):
             sorts = rng.randint(1, 3)
-            make = holding_reader if number % 2 else chance_reader
-            reader = make(rng, sorts, rng.randint(1, 4), rng.randint(1, 3))
+            make = (chance_reader, holding_reader, keen_reader, keen_reader)[number % 4]
+            reader = make(rng, sorts, rng.randint(2, 5), rng.randint(1, 3))
             deep = {1: 10, 2: 6, 3: 4}[sorts]
             slow = [
                 (word[:many], word[many:]) for word in words(sorts, deep) for many in range(len(word) + 1)

@@ -104,6 +104,20 @@ class RunsTest(Case):
         self.least(turning(24), [(), (((0,), 1),), ()], long_run(turning(24), (), (((0,), 1),), ()), 50)
         self.least(turning(9), [(), (((0,), 5),), ()], long_run(turning(9), (), (((0,), 5),), ()), 50)
 
+    def test_entries_held_for_many_rounds(self):
+        # a new entry is taken once a round and let go eight rounds later; the oldest one is pointed at
+        for stands in (3, 20):
+            held = tuple(range(8)) + (8,) * stands
+            steps = [((stand + 1, tuple(range(stand)) + (-1,)),) for stand in range(8)]
+            for stand in range(stands):
+                last = stand == stands - 1
+                steps.append(((8 if last else 9 + stand, tuple(range(1, 8)) + (-1,) if last else tuple(range(8))),))
+            reader = (1, held, tuple(steps), tuple(-1 if many == 0 else 0 for many in held))
+            told = long_run(reader, (), (((0,), 1),), ())
+            self.assertEqual(len(told[1]), stands)
+            self.assertEqual({where[0] for where in told[1]}, {"end"})
+            self.least(reader, [(), (((0,), 1),), ()], told, 100)
+
     def test_errors(self):
         part = (((0,), 1),)
         self.refuses_readers(long_run, (), part, ())

@@ -168,6 +168,7 @@ class SummariesTest(Case):
             self.refuses(BadPaper, {"word": "summary"}, need_summary, FIRST, value)
             self.refuses(BadPaper, {"word": "summary"}, summary_point, FIRST, value)
             self.refuses(BadPaper, {"word": "summary"}, summaries_merged, FIRST, value, None)
+            self.refuses(BadPaper, {"word": "summary"}, summaries_merged, FIRST, value, good)
             self.refuses(BadPaper, {"word": "summary"}, summaries_merged, FIRST, good, value)
             for times in (1, None):
                 self.refuses(BadPaper, {"word": "summary"}, summary_often, FIRST, value, times)

@@ -141,6 +141,23 @@ class SurroundingsTest(Case):
             self.assertEqual(told is None, stand_for(reader, one, two) is not None)
             self.assertIs(is_rows_parting(reader, one, two, told), told is not None)
 
+    def test_one_entry_and_two(self):
+        # behind a mark 1 the first mark 0 is pointed at, behind a mark 2 the last one
+        stay, take = (lambda stand: (stand, (0,) if stand > 2 else ())), (lambda stand: (stand, (-1,)))
+        reader = (3, (0, 0, 0, 1, 1), (
+            (stay(0), stay(1), stay(2)), (take(3), stay(1), stay(1)), (take(4), stay(2), stay(2)),
+            (stay(3),) * 3, (take(4), stay(4), stay(4))), (-1, -1, -1, 0, 0))
+        for word, other in (((0,), (0, 0)), ((1, 0), (0, 1, 0)), ((2, 0, 1, 1), (0, 2, 0, 0))):
+            row, other_row = as_row(word), as_row(other)
+            for one, two, first, second in ((row, other_row, word, other), (other_row, row, other, word)):
+                told = rows_parted(reader, one, two)
+                self.assertEqual(is_right(reader, first, second, told), True)
+                self.assertIs(is_rows_parting(reader, one, two, told), True)
+                self.assertIsNone(stand_for(reader, one, two))
+        self.assertEqual(rows_parted(reader, as_row((0,)), as_row((0, 0))), ("two", (1,), (), (2,), ()))
+        self.assertEqual(rows_parted(reader, as_row((0, 0)), as_row((0,))), ("two", (1,), (), (2,), ()))
+        self.assertEqual(stand_for(reader, as_row((0, 0, 0)), as_row((0, 0))), ((0, 0), (2, 1)))
+
     def test_any_value(self):
         row, other = (((1,), 1),), (((0,), 1),)
         for value in OTHERS + (
