@@ -42,8 +42,10 @@ def likeness_paper(reader, other):
 def point_alike(reader, other, pattern):
     """Whether both readers point at one entry of a pattern, or both at none."""
     stand, other_stand, holds = pattern
-    pair = (reader[3][stand], other[3][other_stand])
-    return pair == (-1, -1) or pair in holds
+    hand, other_hand = reader[3][stand], other[3][other_stand]
+    if hand < 0 or other_hand < 0:
+        return hand < 0 and other_hand < 0
+    return (hand, other_hand) in holds
 
 
 def has_form(reader, other, paper):

@@ -73,4 +73,3 @@ class Trails:
             ])
             word.append(mark)
         return tuple(word)
-

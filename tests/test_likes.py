@@ -105,6 +105,27 @@ class LikesTest(Case):
                     BadPaper, {"word": "form"}, need_likeness_paper, reader, other, ("alike", found + found[-1:]))
         self.assertGreater(told, 20)
 
+    def test_one_point_alone(self):
+        # the one points at what the other one doesn't hold; its pattern has the hands (0, -1)
+        none = reader_named("none", 2)
+        for one, two in ((LAST, none), (none, LAST), (FIRST, none), (none, FIRST)):
+            found = patterns(one, two)
+            self.refuses(BadPaper, {"word": "point"}, need_likeness_paper, one, two, ("alike", found))
+            self.assertEqual(likeness_paper(one, two), ("apart", (0,)))
+
+    def test_chance_papers(self):
+        rng = chance(333)
+        wrong = 0
+        for _ in range(200):
+            reader, other = chance_pair(rng, 2, 4, 2)
+            paper = ("alike", patterns(reader, other))
+            if are_alike(reader, other):
+                self.assertIs(need_likeness_paper(reader, other, paper), paper)
+            else:
+                wrong += 1
+                self.refuses(BadPaper, {"word": "point"}, need_likeness_paper, reader, other, paper)
+        self.assertGreater(wrong, 60)
+
     def test_errors(self):
         self.refuses_two(are_alike)
         self.refuses_two(parting_row)
