@@ -124,7 +124,7 @@ class LikesTest(Case):
             else:
                 wrong += 1
                 self.refuses(BadPaper, {"word": "point"}, need_likeness_paper, reader, other, paper)
-        self.assertGreater(wrong, 60)
+        self.assertGreater(wrong, 40)
 
     def test_errors(self):
         self.refuses_two(are_alike)
