@@ -36,7 +36,7 @@ class Forward:
                     self.ahead.append((self.done, mark))
             self.done += 1
 
-    def word(self, thing):
+    def least_word(self, thing):
         """The least word to a pattern that has been met, otherwise None."""
         if thing not in self.seen:
             return None
@@ -104,7 +104,7 @@ class Backward:
                 found.append(((ahead, other_ahead, told), mark))
         return found
 
-    def word(self, begin):
+    def least_word(self, begin):
         """The least word from the beginning to the pattern, None if it has not been met."""
         if begin not in self.far:
             return None
@@ -134,14 +134,14 @@ def pattern_word(reader, other, pattern, nexts):
     forward = Forward(begin, nexts)
     backward = Backward(reader, other, pattern)
     while forward.waiting() > 0 and backward.waiting() > 0:
-        word = forward.word(pattern)
+        word = forward.least_word(pattern)
         if word is None:
-            word = backward.word(begin)
+            word = backward.least_word(begin)
         if word is not None:
             return word
         if forward.waiting() <= backward.waiting():
             forward.grow()
         else:
             backward.grow()
-    word = forward.word(pattern)
-    return backward.word(begin) if word is None else word
+    word = forward.least_word(pattern)
+    return backward.least_word(begin) if word is None else word
