@@ -41,17 +41,37 @@ def new_hand_bits(reader):
     ]
 
 
-def sieve_of_hands(least, good, always):
+def all_bits(reader):
+    """The bits of all hands."""
+    return (1 << sum(reader[1])) - 1
+
+
+def unpointed_bits(reader):
+    """The bits of the hands with entries that may not have been pointed at up to there."""
+    pointed = pointed_bits(reader)
+    behind = bits_behind(reader)
+    found = 0
+    todo = [bit for row in new_hand_bits(reader) for bit in row if bit > 0]
+    while todo:
+        bit = todo.pop()
+        if bit & found == 0:
+            found = found | bit
+            if bit & pointed == 0:
+                todo.extend([row[bit.bit_length() - 1] for row in behind if row[bit.bit_length() - 1] > 0])
+    return found
+
+
+def sieve_of_hands(least, good, always, told):
     """The least sieve that picks an entry by the hand of a least reader that takes it.
 
     What is behind is told by the hands that are good ahead of it: those with the bits good of
-    an empty rest, those with the bits always of any rest. TooGreat(64).
+    an empty rest, those with the bits always of any rest. Only hands with the bits told matter,
+    each of them for some entry; so unlike bits are unlike right states. TooGreat(64).
     """
     behind = bits_behind(least)
-    # a hand of a least reader holds an entry of some row, so unlike bits are unlike states
     ends, rights = explored(
-        good | always,
-        lambda bits: [bits_ahead(row, bits) | always for row in behind],
+        (good | always) & told,
+        lambda bits: [(bits_ahead(row, bits) | always) & told for row in behind],
         MOST_STATES)
     lefts = [[step[0] for step in row] for row in least[2]]
     masks = [

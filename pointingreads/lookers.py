@@ -4,7 +4,7 @@ from pointingreads.climbs import two_picks_word
 from pointingreads.errors import NotLooker
 from pointingreads.folding import folded
 from pointingreads.growing import reader_grown
-from pointingreads.handbits import pointed_bits, sieve_of_hands
+from pointingreads.handbits import all_bits, pointed_bits, sieve_of_hands
 from pointingreads.pickers import FirstPicks, LastPicks
 from pointingreads.readers import need_reader
 from pointingreads.sieves import need_sieve
@@ -48,4 +48,4 @@ def looker_of(reader):
     """The looker of the reader."""
     need_reader(reader)
     least = folded(reader)
-    return sieve_of_hands(least, pointed_bits(least), 0)
+    return sieve_of_hands(least, pointed_bits(least), 0, all_bits(least))

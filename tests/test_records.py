@@ -37,6 +37,17 @@ def from_end(number):
     return (1, held, steps, (-1,) * number + (number - 1,))
 
 
+def turning_hands(hands):
+    """A reader that points at each entry with the mark 0 at once, and turns its hands by the other marks."""
+    steps = []
+    for many in range(hands):
+        stays = (many, tuple(range(many)))
+        steps.append(((many + 1, (-1,) + tuple(range(many))), stays, stays))
+    full = tuple(range(hands))
+    steps += [((hands, (-1,) + full[:-1]), (hands + 1, full[1:] + full[:1]), (hands + 2, (1, 0) + full[2:]))] * 3
+    return (3, full + (hands,) * 3, tuple(steps), (-1,) + (0,) * hands + (-1, hands // 2))
+
+
 class RecordsTest(Case):
     def test_against_slow(self):
         rng = chance(301)
@@ -86,6 +97,17 @@ class RecordsTest(Case):
         # what is behind counts: the third last entry and what may become it
         self.assertEqual([len(table) for table in records_of(from_end(3))[1:3]], [1, 3])
         self.assertEqual([len(table) for table in candidates_of(from_end(3))[1:3]], [1, 4])
+
+    def test_what_has_been_pointed_at_does_not_count(self):
+        # where the entries go later has very many states, but each of them has been a record long since
+        truths = (((True,), (False,), (False,)),)
+        for hands in (3, 4, 6):
+            reader = turning_hands(hands)
+            self.assertEqual(hands_needed(reader), hands)
+            self.assertEqual(records_of(reader), (3, ((0, 0, 0),), ((0, 0, 0),), truths))
+        for word in words(3, 5):
+            self.assertEqual(slow_records(turning_hands(3), word), slow_picks(records_of(turning_hands(3)), word))
+        self.refuses(TooGreat, {"most": 64}, candidates_of, turning_hands(6))
 
     def test_errors(self):
         for function in (records_of, candidates_of):
