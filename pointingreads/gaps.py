@@ -2,8 +2,7 @@
 
 from pointingreads.checks import MOST_TIMES, is_whole
 from pointingreads.errors import BadNumber, TooGreat
-from pointingreads.gaprows import row_with
-from pointingreads.packing import packed
+from pointingreads.gaprows import packed, row_with
 from pointingreads.pieces import few_blocks
 from pointingreads.reading import row_point
 from pointingreads.readers import need_fit

@@ -2,7 +2,7 @@
 
 import unittest
 
-from pointingreads.packing import packed, packed_often
+from pointingreads.gaprows import packed, packed_often
 from pointingreads.rows import is_row
 from tests.helpers import Case, chance, chance_word, marks_of, words
 
