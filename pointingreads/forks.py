@@ -26,12 +26,13 @@ def outcomes_known(kind):
 
 
 class Forks:
-    """The forks of a reader for changes of one kind."""
+    """The forks of a reader for changes of one kind; lost has the marks of what may be lost, None is all."""
 
-    def __init__(self, reader, kind):
+    def __init__(self, reader, kind, lost=None):
         least = folded(reader)
         self.kind = kind
         self.marks = list(range(least[0]))
+        self.lost = self.marks if lost is None else lost
         self.steps = hand_steps(least)
         self.points = least[3]
 
@@ -53,7 +54,7 @@ class Forks:
             left, right = (stage, "left"), (mark, "right")
             return self.read(fork, "behind", [left, right], [right, left])
         found = self.with_put(self.read(fork, "ahead", entry, entry))
-        if self.kind == "lost":
+        if self.kind == "lost" and mark in self.lost:
             found = found + self.read(fork, "behind", [(mark, "it")], [])
         if self.kind == "turned":
             found.append((mark,) + fork[1:])

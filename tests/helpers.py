@@ -290,6 +290,85 @@ def sieve_by(sorts, left, right, truth):
         for one in range(len(left))))
 
 
+def slow_such(condition, marks, at):
+    """Whether the entry at a place is such as the condition says, word for word as the document has it."""
+    kind = condition[0]
+    if kind == "is":
+        return marks[at] in condition[1]
+    if kind == "not":
+        return not slow_such(condition[1], marks, at)
+    if kind == "and":
+        return slow_such(condition[1], marks, at) and slow_such(condition[2], marks, at)
+    if kind == "or":
+        return slow_such(condition[1], marks, at) or slow_such(condition[2], marks, at)
+    ahead = condition[1] == "ahead"
+    such = [
+        place for place in range(len(marks))
+        if (place < at if ahead else place > at) and slow_such(condition[2], marks, place)]
+    if kind == "next":
+        return (at - 1 if ahead else at + 1) in such
+    if kind == "some":
+        return len(such) >= condition[3]
+    if kind == "rest":
+        return len(such) % condition[3] == condition[4]
+    return any(
+        all(slow_such(condition[3], marks, place) for place in range(min(at, end) + 1, max(at, end)))
+        for end in such)
+
+
+def slow_all_such(condition, marks):
+    return tuple(at for at in range(len(marks)) if slow_such(condition, marks, at))
+
+
+def slow_rule(rule, marks):
+    kind = rule[0]
+    if kind in ("pick", "only"):
+        such = slow_all_such(rule[-1], marks)
+        if kind == "only":
+            return such[0] if len(such) == 1 else None
+        such = such if rule[1] == "front" else such[::-1]
+        return such[rule[2] - 1] if rule[2] <= len(such) else None
+    if kind == "else":
+        place = slow_rule(rule[1], marks)
+        return slow_rule(rule[2], marks) if place is None else place
+    if kind == "if":
+        return slow_rule(rule[3] if slow_rule(rule[1], marks) is None else rule[2], marks)
+    at = slow_rule(rule[2], marks)
+    if at is None:
+        return None
+    if rule[1] == "ahead":
+        return slow_rule(rule[3], marks[:at])
+    place = slow_rule(rule[3], marks[at + 1:])
+    return None if place is None else at + 1 + place
+
+
+def chance_condition(rng, deep, most=3):
+    kind = rng.choice(("is", "not", "and", "or", "next", "some", "rest", "until")) if deep else "is"
+    if kind == "is":
+        return ("is", tuple(sorted(rng.sample(range(4), rng.choice((0, 1, 1, 1, 2, 2, 3, 4))))))
+    side = () if kind in ("not", "and", "or") else (rng.choice(("ahead", "behind")),)
+    many = 2 if kind in ("and", "or", "until") else 1
+    value = (kind,) + side + tuple(chance_condition(rng, deep - 1, most) for _ in range(many))
+    if kind == "some":
+        return value + (rng.randint(1, most),)
+    if kind == "rest":
+        modulus = rng.randint(2, max(2, most))
+        return value + (modulus, rng.randrange(modulus))
+    return value
+
+
+def chance_rule(rng, deep, within=2, most=3):
+    kind = rng.choice(("pick", "only", "else", "part", "if")) if deep else rng.choice(("pick", "only"))
+    if kind == "pick":
+        return (
+            "pick", rng.choice(("front", "end")), rng.randint(1, most), chance_condition(rng, within, most))
+    if kind == "only":
+        return ("only", chance_condition(rng, within, most))
+    side = (rng.choice(("ahead", "behind")),) if kind == "part" else ()
+    rules = tuple(chance_rule(rng, deep - 1, within, most) for _ in range(3 if kind == "if" else 2))
+    return (kind,) + side + rules
+
+
 # readers of two marks and of one, and spoilt ones with their faults
 FIRST = (2, (0, 1), (((1, (-1,)), (0, ())), ((1, (0,)), (1, (0,)))), (-1, 0))
 LAST = (2, (0, 1), (((1, (-1,)), (1, (-1,))), ((1, (-1,)), (1, (-1,)))), (-1, 0))

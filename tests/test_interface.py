@@ -70,6 +70,21 @@ INTERFACE = {
     "rankings": "need_ranking(ranking,sorts) ranking_point(ranking,row) "
                 "reader_of_ranking(ranking,sorts) all_rankings(sorts) ranking_number(number) "
                 "ranking_else(ranking,other_ranking)",
+    "steadiness": "is_steady(reader) ranking_of(reader) harmless_marks(reader) steady_break(reader)",
+    "critical": "is_critical(reader,row,place) critical_sieve(reader) marked_sieve(reader,mark)",
+    "evenness": "is_even(reader) even_break(reader)",
+    "rules": "condition_fault(value) rule_fault(value) need_condition(condition) need_rule(rule) "
+             "such_entries(condition,row) rule_point(rule,row)",
+    "meant": "sieve_meant(condition,sorts) reader_meant(rule,sorts)",
+    "ruled": "mean_alike(condition,other,sorts) rules_alike(rule,other,sorts) "
+             "condition_apart(condition,other,sorts) rule_apart(rule,other,sorts) "
+             "first_such(condition,sorts) never_such(condition,sorts) always_such(condition,sorts)",
+    "weaves": "reader_else(reader,other) former(reader,other) latter(reader,other) reader_if(reader,other) "
+              "reader_where(reader,other) on_marks(reader,marks) mirrored(reader) renamed(reader,marks)",
+    "within": "part_behind(reader,other) part_ahead(reader,other) between(reader,other,third)",
+    "ends": "ends(reader,row) candidates(reader,row) continuation(reader,row,end)",
+    "settled": "is_settled(reader,row) settling(reader,row) settled_ends(reader,row) last_open(reader) "
+               "open_run(reader,number)",
     "least": "live_words(reader) least_reader(reader) hands_needed(reader) stands_needed(reader)",
 }
 
