@@ -31,8 +31,8 @@ class Forks:
     def __init__(self, reader, kind, lost=None):
         least = folded(reader)
         self.kind = kind
-        self.marks = list(range(least[0]))
-        self.lost = self.marks if lost is None else lost
+        self.mark_list = list(range(least[0]))
+        self.lost = self.mark_list if lost is None else lost
         self.steps = hand_steps(least)
         self.points = least[3]
 
@@ -42,7 +42,7 @@ class Forks:
 
     def nexts(self, fork):
         """For each mark the forks to which one goes."""
-        return [self.behind(fork, mark) for mark in self.marks]
+        return [self.behind(fork, mark) for mark in self.mark_list]
 
     def behind(self, fork, mark):
         """The forks behind one mark."""
@@ -59,7 +59,7 @@ class Forks:
         if self.kind == "turned":
             found.append((mark,) + fork[1:])
         if self.kind == "marked":
-            for other in self.marks:
+            for other in self.mark_list:
                 found = found + self.read(fork, "behind", [(mark, "it")], [(other, "it")])
         return found
 
@@ -68,7 +68,7 @@ class Forks:
         found = list(forks)
         if self.kind == "put":
             for fork in forks:
-                for mark in self.marks:
+                for mark in self.mark_list:
                     found = found + self.read(fork, "behind", [], [(mark, "it")])
         return found
 

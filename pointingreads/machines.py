@@ -19,16 +19,16 @@ class Machine:
     """A trace in numbers; some of its items are an ascending tuple of their numbers.
 
     start has the items of the empty row, goal those that are right. For each mark and each item
-    stays tells the items behind another entry, born those behind the wanted one, and goes those
+    stays tells the items behind another entry, born those behind the wanted one, and after those
     behind an entry if the wanted one has come.
     """
 
-    def __init__(self, start, goal, stays, born, goes):
+    def __init__(self, start, goal, stays, born, after):
         self.start = start
         self.goal = goal
         self.stays = stays
         self.born = born
-        self.goes = goes
+        self.after = after
 
 
 def moved_by(rows, items):
@@ -190,9 +190,9 @@ def turned_rows(rows, many):
 
 def turned_machine(machine):
     """The machine of the same rows read from the end."""
-    aheads, comes = len(machine.stays[0]), len(machine.goes[0])
+    aheads, comes = len(machine.stays[0]), len(machine.after[0])
     return Machine(
-        machine.goal, machine.start, turned_rows(machine.goes, comes), turned_rows(machine.born, comes),
+        machine.goal, machine.start, turned_rows(machine.after, comes), turned_rows(machine.born, comes),
         turned_rows(machine.stays, aheads))
 
 
@@ -244,7 +244,7 @@ def spans(machine, most):
             continue
         for mark in range(len(machine.stays)):
             if stage == COME:
-                todo.append((COME, moved_by(machine.goes[mark], items)))
+                todo.append((COME, moved_by(machine.after[mark], items)))
             else:
                 todo.append((AHEAD, moved_by(machine.stays[mark], items)))
                 todo.append((COME, moved_by(machine.born[mark], items)))
@@ -268,4 +268,4 @@ def names_of(machine, most):
     """
     comes, aheads, whole = spans(turned_machine(machine), most)
     return (
-        names_by(aheads, len(machine.stays[0])), names_by(comes, len(machine.goes[0])), whole)
+        names_by(aheads, len(machine.stays[0])), names_by(comes, len(machine.after[0])), whole)

@@ -30,8 +30,8 @@ class Pointed:
         self.names, self.come_names, self.whole = names_of(machine, most)
         self.goals = {item: True for item in machine.goal}
         arrows = [
-            [(mark, behind) for mark, rows in enumerate(machine.goes) for behind in rows[item]]
-            for item in range(len(machine.goes[0]))
+            [(mark, behind) for mark, rows in enumerate(machine.after) for behind in rows[item]]
+            for item in range(len(machine.after[0]))
         ]
         _, self.ranks = least_routes(arrows, machine.goal)
 
@@ -43,7 +43,7 @@ class Pointed:
         """The configuration behind a mark, and what its hands keep."""
         items, held = one
         behinds = [moved_by(self.machine.born[mark], items)]
-        behinds.extend([moved_by(self.machine.goes[mark], told) for told in held])
+        behinds.extend([moved_by(self.machine.after[mark], told) for told in held])
         found = sorted([
             (min([self.ranks[item] for item in told]), hand - 1, told)
             for hand, told in enumerate(behinds) if told

@@ -85,6 +85,17 @@ INTERFACE = {
     "ends": "ends(reader,row) candidates(reader,row) continuation(reader,row,end)",
     "settled": "is_settled(reader,row) settling(reader,row) settled_ends(reader,row) last_open(reader) "
                "open_run(reader,number)",
+    "nearest": "fewest_to(reader,row,place) script_to(reader,row,place) fewest_off(reader,row) script_off(reader,row)",
+    "forcing": "forced_in(reader,row,end,turn) forcing_mark(reader,row,end) holding_mark(reader,row,end)",
+    "ordering": "order_of(reader,row) order_number(reader,row) order_at(reader,row,number) "
+                "order_rank(reader,row,place)",
+    "sharing": "shares(reader,other,row)",
+    "scarce": "least_scarce(reader,number)",
+    "lettering": "is_name(value)",
+    "texts": "row_text(row) reader_text(reader) sieve_text(sieve) rule_text(rule) condition_text(condition)",
+    "parsing": "parse_row(text) parse_reader(text) parse_sieve(text) parse_rule(text) parse_condition(text)",
+    "logs": "log_text(live) read_log(text)",
+    "sheets": "sheet_entries(text) judged(text)",
     "least": "live_words(reader) least_reader(reader) hands_needed(reader) stands_needed(reader)",
 }
 
@@ -99,6 +110,19 @@ class InterfaceTest(unittest.TestCase):
                 self.assertTrue(inspect.isfunction(found), item)
                 self.assertEqual(found.__module__, module.__name__, item)
                 self.assertEqual(list(inspect.signature(found).parameters), parameters.split(","), item)
+
+    def test_class(self):
+        from pointingreads.live import Live
+        self.assertEqual(Live.__module__, "pointingreads.live")
+        listed = (
+            "__init__(self,holder,row) __eq__(self,other) put(self,place,mark) lose(self,place) "
+            "remark(self,place,mark) take_back(self,stamp) take_over(self,other) twin(self,holder) "
+            "tag_at(self,place) place_of(self,tag) mark_of(self,tag) is_in_force(self,stamp) "
+            "marks(self,place,many) tags(self,place,many) parts(self) point(self,reader)")
+        for item in listed.split():
+            method, parameters = item[:-1].split("(")
+            self.assertEqual(list(inspect.signature(vars(Live)[method]).parameters), parameters.split(","), item)
+        self.assertIsInstance(vars(Live)["length"], property)
 
     def test_values(self):
         from pointingreads.named import NAMES

@@ -22,7 +22,7 @@ METHODS = set(
 STATEMENTS = (
     ast.Module, ast.FunctionDef, ast.ClassDef, ast.Return, ast.Assign, ast.AugAssign, ast.For,
     ast.While, ast.If, ast.Raise, ast.Assert, ast.ImportFrom, ast.Expr, ast.Pass, ast.Break,
-    ast.Continue, ast.Delete)
+    ast.Continue, ast.Delete, ast.Try)
 EXPRESSIONS = (
     ast.BoolOp, ast.BinOp, ast.UnaryOp, ast.Lambda, ast.IfExp, ast.Dict, ast.Set, ast.ListComp,
     ast.SetComp, ast.DictComp, ast.GeneratorExp, ast.Compare, ast.Call, ast.Constant,
@@ -99,6 +99,11 @@ class LanguageTest(unittest.TestCase):
     def test_only_known_statements_and_expressions(self):
         for at, node in self.each(ast.stmt):
             self.assertIsInstance(node, STATEMENTS, at)
+        # only errors of the package are caught
+        for at, node in self.each(ast.ExceptHandler):
+            self.assertEqual((node.type.id, node.name), ("ReadError", None), at)
+        for at, node in self.each(ast.Try):
+            self.assertEqual((len(node.handlers), node.orelse, node.finalbody), (1, [], []), at)
         for at, node in self.each(ast.expr):
             self.assertIsInstance(node, EXPRESSIONS, at)
         for at, node in self.each(ast.Constant):
