@@ -33,7 +33,7 @@ class Cursor:
             found.append(self.take(signs))
         return "".join(found)
 
-    def whole(self, most):
+    def integer(self, most):
         """An integer of at most so many digits."""
         if self.sees("0"):
             return int(self.take("0"))
@@ -45,7 +45,7 @@ class Cursor:
         rest = self.some(DIGITS, most - 1) if most > 1 and self.sees(DIGITS) else ""
         return int(first + rest)
 
-    def name(self):
+    def small_name(self):
         """A name."""
         return self.some(SMALL, MOST_LETTERS)
 

@@ -21,7 +21,7 @@ def check_end(reader, row, end):
 
 
 class Game:
-    """What comes from a row on; values has how many marks force the end, None if it isn't forced.
+    """What comes from a row on; worths has how many marks force the end, None if it isn't forced.
 
     A state is a triple (STAND, HAND, TURN): HAND has the entry that is wanted, -1 if none is
     wanted, -2 if it is in no hand. TURN tells who puts the next mark. places has for each state
@@ -29,10 +29,10 @@ class Game:
     """
 
     def __init__(self, least, stand, hand, turn):
-        self.least = least
+        self.reader = least
         self.steps = hand_steps(least)
         self.states, self.moves = explored((stand, hand, turn), self.nexts, None)
-        self.values = self.valued()
+        self.worths = self.valued()
 
     def nexts(self, state):
         """For each mark the state behind it."""
@@ -45,7 +45,7 @@ class Game:
     def is_had(self, state):
         """Whether the end is had."""
         stand, hand, _ = state
-        return is_still(self.least, stand) and hand == self.least[3][stand]
+        return is_still(self.reader, stand) and hand == self.reader[3][stand]
 
     def valued(self):
         """For each state how many marks force the end, None if it isn't forced."""
@@ -85,17 +85,17 @@ def forced_in(reader, row, end, turn):
     check_end(reader, row, end)
     if not is_whole(turn, ONE, OTHER):
         raise BadNumber(turn)
-    return game_of(reader, row, end, turn).values[0]
+    return game_of(reader, row, end, turn).worths[0]
 
 
 def forcing_mark(reader, row, end):
     """The least mark with which the one goes on to force the end, or None."""
     check_end(reader, row, end)
     game = game_of(reader, row, end, ONE)
-    many = game.values[0]
+    many = game.worths[0]
     if many is None or many == 0:
         return None
-    behinds = [game.values[behind] for behind in game.moves[0]]
+    behinds = [game.worths[behind] for behind in game.moves[0]]
     return behinds.index(many - 1)
 
 
@@ -103,5 +103,5 @@ def holding_mark(reader, row, end):
     """The least mark with which the other one keeps the end from being forced, or None."""
     check_end(reader, row, end)
     game = game_of(reader, row, end, OTHER)
-    behinds = [game.values[behind] for behind in game.moves[0]]
+    behinds = [game.worths[behind] for behind in game.moves[0]]
     return behinds.index(None) if None in behinds else None

@@ -38,7 +38,7 @@ def scan_row(cursor):
 def scan_step(cursor):
     """A step of a reader."""
     cursor.take(" ")
-    stand = cursor.whole(3)
+    stand = cursor.integer(3)
     cursor.take(":")
     if cursor.sees("-"):
         cursor.take("-")
@@ -74,7 +74,7 @@ def scan_state(cursor, sorts):
     found = []
     for _ in range(sorts):
         cursor.take(" ")
-        found.append(cursor.whole(2))
+        found.append(cursor.integer(2))
     return tuple(found)
 
 

@@ -113,8 +113,10 @@ class Behind:
         stand, hand, other_stand, other_hand = item
         step = self.steps[stand][mark]
         if hand < 0:
-            others = [(step[0], -1, 0, -1)]
-            return others + [(step[0], step[1], 0, -1)] if step[1] >= 0 else others, []
+            found = [(step[0], -1, 0, -1)]
+            if step[1] >= 0:
+                found.append((step[0], step[1], 0, -1))
+            return found, []
         other = self.other_steps[other_stand][mark]
         hand, there = hand_behind(step, hand), hand_behind(other, other_hand)
         # an entry that is let go is not pointed at in the end

@@ -37,18 +37,18 @@ def scan_stamp(cursor):
     """The item of a stamp of which a step speaks."""
     count = cursor.counted(COUNT_DIGITS)
     cursor.take(".")
-    return (count, cursor.name())
+    return (count, cursor.small_name())
 
 
 def scan_tag(cursor):
     """The item of a tag: a place of the first row, or a stamp."""
     if cursor.sees("0"):
-        return cursor.whole(1)
+        return cursor.integer(1)
     begin = cursor.at
     number = cursor.counted(PLACE_DIGITS)
     if cursor.at - begin <= COUNT_DIGITS and cursor.sees("."):
         cursor.take(".")
-        return (number, cursor.name())
+        return (number, cursor.small_name())
     return number
 
 
@@ -66,7 +66,7 @@ def scan_deed(cursor):
     cursor.take(" ")
     count = cursor.counted(COUNT_DIGITS)
     cursor.take(" ")
-    stamp = (count, cursor.name())
+    stamp = (count, cursor.small_name())
     cursor.take(" ")
     if kind == "back":
         return (kind, stamp, scan_stamp(cursor))
@@ -79,7 +79,7 @@ def scan_deed(cursor):
 
 def scan_log(cursor):
     """The holder, the first row and the steps of a log."""
-    holder = cursor.name()
+    holder = cursor.small_name()
     cursor.new_line()
     row = scan_row(cursor)
     steps = []

@@ -19,10 +19,10 @@ class Halves:
     """
 
     def __init__(self, least):
-        self.marks = list(range(least[0]))
+        self.mark_list = list(range(least[0]))
         self.steps = hand_steps(least)
         self.points = least[3]
-        marks = [None] + self.marks
+        marks = [None] + self.mark_list
         self.best = {
             (mark, other): word_point(least, tuple([one for one in (mark, other) if one is not None]))
             for mark in marks for other in marks}
@@ -42,8 +42,8 @@ class Halves:
     def nexts(self, half):
         """For each mark what is known behind it."""
         if half[0] == "first":
-            return [self.with_second(self.first_behind(half, mark)) for mark in self.marks]
-        return [self.second_behind(half, mark) for mark in self.marks]
+            return [self.with_second(self.first_behind(half, mark)) for mark in self.mark_list]
+        return [self.second_behind(half, mark) for mark in self.mark_list]
 
     def first_behind(self, half, mark):
         """What is known behind a mark of the first part."""

@@ -75,8 +75,10 @@ def fewest_edits(edits, is_right):
                 return edits_to(ahead, item)
             told = edits.nexts(item)
             for cost, kind, behind in told:
-                if behind not in ahead:
-                    (dearer if cost > 0 else layer).append((behind, kind, item))
+                if cost > 0:
+                    dearer.append((behind, kind, item))
+                else:
+                    layer.append((behind, kind, item))
         layer = dearer
     return None
 

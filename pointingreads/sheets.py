@@ -46,7 +46,7 @@ def scan_text(cursor, sort):
 def scan_entry(cursor, sort):
     """The entry of a sort whose word has been taken."""
     cursor.take(" ")
-    name = cursor.name()
+    name = cursor.small_name()
     cursor.ahead = "- "
     cursor.new_line()
     told = scan_text(cursor, sort)
@@ -62,8 +62,8 @@ def scan_item(cursor, kind):
         cursor.take("-")
         return None
     if kind in ("place", "number"):
-        return cursor.whole(MOST_DIGITS)
-    return cursor.name()
+        return cursor.integer(MOST_DIGITS)
+    return cursor.small_name()
 
 
 def scan_verdict(cursor, word):
