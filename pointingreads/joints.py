@@ -91,10 +91,10 @@ class Decided:
         return pointless == (which == 1) and self.readers[which][3][stand] == hand
 
 
-class Behind:
-    """Wants the point of the other reader in the part behind the point of a reader.
+class Parted:
+    """Two readers, of which the other one reads a part of the row that the first one tells.
 
-    An item is (STAND, HAND, OTHER_STAND, OTHER_HAND); HAND is -1 ahead of the reader's point.
+    An item is (STAND, HAND, OTHER_STAND, OTHER_HAND); a hand is -1 as long as its entry is to come.
     """
 
     def __init__(self, reader, other):
@@ -107,6 +107,10 @@ class Behind:
     def starts(self):
         """The items of the empty row."""
         return [(0, -1, 0, -1)]
+
+
+class Behind(Parted):
+    """Wants the point of the other reader in the part behind the point of a reader."""
 
     def behind(self, item, mark):
         """The items of the entries but the wanted one, and that of the wanted one, if there are any."""
@@ -139,22 +143,11 @@ class Behind:
         return self.points[stand] == hand and self.other_points[other_stand] == other_hand
 
 
-class Ahead:
+class Ahead(Parted):
     """Wants the point of the other reader in the part ahead of the point of a reader.
 
-    An item is (STAND, HAND, OTHER_STAND, OTHER_HAND); OTHER_STAND is -1 from the reader's point on.
+    OTHER_STAND is -1 from the reader's point on.
     """
-
-    def __init__(self, reader, other):
-        self.sorts = reader[0]
-        self.steps = hand_steps(reader)
-        self.other_steps = hand_steps(other)
-        self.points = reader[3]
-        self.other_points = other[3]
-
-    def starts(self):
-        """The items of the empty row."""
-        return [(0, -1, 0, -1)]
 
     def nexts(self, item):
         """For each mark where one goes by another entry, and where by the wanted one."""

@@ -39,7 +39,7 @@ class Picks:
                 flag = flag | (1 << number)
         return flag
 
-    def leads(self, left, right):
+    def arrivals(self, left, right):
         """For each mark the triples (LEFT, RIGHT, FLAG): the states to which it leads."""
         return [
             [(self.lefts[left][mark], behind, self.flag(left, mark, behind)) for behind in row[right]]
@@ -68,7 +68,7 @@ class Counted:
         """For each mark where one goes by another entry, and where by the wanted one."""
         left, right, count = item
         found = []
-        rows = self.table.leads(left, right)
+        rows = self.table.arrivals(left, right)
         for row in rows:
             others = [(ahead, behind, self.counts[count][flag]) for ahead, behind, flag in row]
             wanted = [behind for _, behind, _ in row] if count in self.good else []
@@ -101,7 +101,7 @@ class Read:
         """For each mark where one goes by another entry, and where by the wanted one."""
         left, right, stand, _ = item
         found = []
-        rows = self.table.leads(left, right)
+        rows = self.table.arrivals(left, right)
         for row in rows:
             others = []
             wanted = []
@@ -117,7 +117,7 @@ class Read:
         """For each mark where one goes once the wanted entry has come."""
         left, right, stand, hand = item
         found = []
-        rows = self.table.leads(left, right)
+        rows = self.table.arrivals(left, right)
         for row in rows:
             told = [(ahead, behind) + self.steps[stand][flag] for ahead, behind, flag in row]
             found.append([

@@ -15,5 +15,9 @@ def least_scarce(reader, number):
     if not is_whole(number, 0, MOST_HANDS):
         raise BadNumber(number)
     _, held, steps, _ = folded(reader)
-    found = least_words([0], lambda stand: [[step[0]] for step in steps[stand]], lambda stand: held[stand], [number])
+    found = least_words(
+        [0],
+        lambda stand: [[step[0]] for step in steps[stand]],
+        lambda one: held[one],
+        [number])
     return found.get(number)

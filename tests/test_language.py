@@ -106,6 +106,11 @@ class LanguageTest(unittest.TestCase):
             self.assertEqual((len(node.handlers), node.orelse, node.finalbody), (1, [], []), at)
         for at, node in self.each(ast.expr):
             self.assertIsInstance(node, EXPRESSIONS, at)
+        known = set()
+        for at, node in self.each(ast.Lambda):
+            names = (at, tuple(argument.arg for argument in node.args.args))
+            self.assertNotIn(names, known)
+            known.add(names)
         for at, node in self.each(ast.Constant):
             self.assertIn(node.value.__class__, (int, str, bool, type(None)), at)
             if isinstance(node.value, str):

@@ -383,6 +383,7 @@ class LogsTest(Case):
 
     def test_things_that_are_none(self):
         self.refuses(BadRow, {"place": 1}, read_log, "a\n0 0*" + "9" * 31 + "\nlost 1 a 9")
+        self.refuses(BadRow, {"place": 0}, read_log, "a\n0*" + "9" * 31 + "\nlost 1 a 1.a")
         for number, lines in (
                 (0, ["lost 1 a 2"]), (0, ["lost 1 a 1.a"]), (0, ["back 2 a 1.a"]), (0, ["put 1 a 2 0"]),
                 (0, ["lost 1 a " + "9" * 35]), (1, ["lost 1 a 0", "lost 1 a 0"]), (1, ["lost 2 a 0", "lost 1 b 0"]),

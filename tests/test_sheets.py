@@ -149,8 +149,8 @@ class SheetsTest(Case):
 
     def test_places(self):
         self.assertEqual(set(VERDICTS), set(SORTS))
-        holds_places(self, chance(582), sheet_entries, sheet_lines, 12)
-        holds_places(self, chance(583), judged, sheet_lines, 3)
+        holds_places(self, chance(582), sheet_entries, sheet_lines, 7)
+        holds_places(self, chance(583), judged, sheet_lines, 2)
         for value in NO_INTEGERS + (0, b"same a b"):
             if type(value) is not str:
                 self.refuses(BadText, {"line": None, "column": None}, sheet_entries, value)
