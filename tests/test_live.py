@@ -9,7 +9,7 @@ from pointingreads.rankings import all_rankings, reader_of_ranking
 from tests.helpers import (
     FIRST, GREAT, LAST, NO_INTEGERS, NO_ROWS, OTHERS, SPOILT, Case, chance, chance_row, holding_reader, marks_of,
     slow_point)
-from tests.texthelpers import holds_places, log_lines
+from tests.texthelpers import holds_each, holds_places, log_lines
 
 ROW = (((0, 1), 2), ((2,), 1))
 NO_STAMPS = NO_INTEGERS + (0, 1, (1, "z"), (2, "a"), (True, "a"), (1, "a", "a"), [1, "a"], (1.0, "a"), (1, b"a"), ("a", 1))
@@ -365,6 +365,7 @@ class LogsTest(Case):
 
     def test_places(self):
         holds_places(self, chance(574), read_log, log_lines, 20)
+        holds_each(self, read_log, "ab\n01*3 2\nput 1 ab - 3\nlost 2 b 10\nback 13 c 1.ab\nmarked 14 b 1.ab 0")
         for value in NO_INTEGERS + (0, b"a\n-"):
             if type(value) is not str:
                 self.refuses(BadText, {"line": None, "column": None}, read_log, value)

@@ -18,7 +18,7 @@ from pointingreads.texts import reader_text, row_text, rule_text, sieve_text
 from tests.helpers import (
     GREAT, NO_INTEGERS, Case, chance, chance_reader, chance_row, chance_rule, chance_sieve, holding_reader, marks_of)
 from tests.test_live import chance_copies
-from tests.texthelpers import VERDICTS, holds_places, sheet_lines
+from tests.texthelpers import VERDICTS, holds_each, holds_places, sheet_lines
 
 SORTS = {
     "points": ("reader", "row"), "apart": ("reader", "reader", "row"), "alike": ("reader", "reader"),
@@ -151,6 +151,7 @@ class SheetsTest(Case):
         self.assertEqual(set(VERDICTS), set(SORTS))
         holds_places(self, chance(582), sheet_entries, sheet_lines, 7)
         holds_places(self, chance(583), judged, sheet_lines, 2)
+        holds_each(self, sheet_entries, "row u\n- 0*3\nrule q\n- (a 1)\npoints r u -\npicks t u 10")
         for value in NO_INTEGERS + (0, b"same a b"):
             if type(value) is not str:
                 self.refuses(BadText, {"line": None, "column": None}, sheet_entries, value)

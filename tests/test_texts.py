@@ -1,5 +1,7 @@
 """[83], [84], with [27], [33], [69], [70]: names, texts, and things told by texts."""
 
+import re
+
 from pointingreads.errors import BadReader, BadRow, BadRule, BadSieve, BadText
 from pointingreads.least import least_reader
 from pointingreads.lettering import is_name
@@ -11,7 +13,7 @@ from pointingreads.texts import condition_text, reader_text, row_text, rule_text
 from tests.helpers import (
     GREAT, NO_INTEGERS, NO_ROWS, SPOILT, Case, chance, chance_condition, chance_reader, chance_row, chance_rule,
     chance_sieve, holding_reader)
-from tests.texthelpers import holds_places, place_refused, reader_lines, row_line, rule_line, sieve_lines
+from tests.texthelpers import holds_all, holds_each, holds_places, place_refused, reader_lines, row_line, rule_line, sieve_lines
 
 SIEVE = (2, ((0, 1), (1, 0)), ((0, 0),), (((True,), (False,)), ((False,), (True,))))
 
@@ -86,6 +88,25 @@ class ParsingTest(Case):
                 (parse_row, row_line), (parse_reader, reader_lines), (parse_sieve, sieve_lines), (parse_rule, rule_line),
                 (parse_condition, rule_line)):
             holds_places(self, rng, function, make, 12)
+
+    def test_all_short_texts(self):
+        item = "[0-3]{1,60}(\\*[1-9][0-9]{0,30})?"
+        row = re.compile("(-|" + item + "( " + item + "){0,59})")
+        holds_all(self, parse_row, lambda text: row.fullmatch(text) is not None, "03*- 5", 5, 6)
+        inner = re.compile("\\(((T|[a-z]{1,12}|[0-9])( (T|[a-z]{1,12}|[0-9]))*)?\\)")
+
+        def is_rule(text):
+            while inner.search(text):
+                text = inner.sub("T", text)
+            return text == "T"
+
+        holds_all(self, parse_rule, is_rule, "(a7 )", 4, 8)
+
+    def test_each_place(self):
+        for function, text in (
+                (parse_row, "012*30 3"), (parse_reader, "2\n0 - 1:+ 0:-\n1 0 10:0 1:+"), (parse_sieve, sieve_text(SIEVE)),
+                (parse_rule, "(pick end 2 (is (0 3)))"), (parse_condition, "(not (is ()))")):
+            holds_each(self, function, text)
 
     def test_what_is_no_text(self):
         for function in (parse_row, parse_reader, parse_sieve, parse_rule, parse_condition):

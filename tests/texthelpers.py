@@ -1,5 +1,7 @@
 """Texts that can be read, made by the words of the document alone, and the places of what can't be read."""
 
+import itertools
+
 from pointingreads.errors import BadText, ReadError
 
 SIGNS = " -*+:.()\n0123456789abcdefghijklmnopqrstuvwxyzLRPA~\""
@@ -149,3 +151,39 @@ def goes_on(case, rng, function, text):
         case.assertTrue(signs, text)
         text = text + rng.choice([sign for sign in signs if sign == ")"] or [
             sign for sign in signs if sign not in "( "] or signs)
+
+
+def holds_all(case, function, can_be_read, signs, looked, most):
+    """Told places are right for all texts of some signs, as long as looked tells.
+
+    What goes on to a text that can be read goes on to one of at most so many signs.
+    """
+    beginnings = set()
+    for many in range(most + 1):
+        for text in itertools.product(signs, repeat=many):
+            text = "".join(text)
+            if can_be_read(text):
+                beginnings.update(text[:cut] for cut in range(many + 1))
+    for many in range(looked + 1):
+        for text in itertools.product(signs, repeat=many):
+            text = "".join(text)
+            place = 0
+            while place < many and text[:place + 1] in beginnings:
+                place += 1
+            case.assertEqual(place_refused(function, text), None if can_be_read(text) else place, text)
+
+
+def holds_each(case, function, text):
+    """A character left out, doubled, put in or exchanged at each place of a text is refused at a right place."""
+    case.assertIsNone(place_refused(function, text))
+    for at in range(len(text) + 1):
+        for sign in SIGNS:
+            for other in (
+                    text[:at] + text[at + 1:], text[:at] + text[at:at + 1] + text[at:], text[:at] + sign + text[at:],
+                    text[:at] + sign + text[at + 1:]):
+                place = place_refused(function, other)
+                if place is not None:
+                    # what is ahead of the spoilt place is right
+                    case.assertLessEqual(at, place)
+                    case.assertIn(place_refused(function, other[:place]), (None, place))
+                    case.assertEqual(place_refused(function, other[:place + 1]), place)
