@@ -106,7 +106,7 @@ def split_by(counts, classes, members):
         for group in told.values():
             for node in group:
                 del rest[node]
-        groups = [{node: True for node in group} for group in told.values()]
+        groups = [{one: True for one in group} for group in told.values()]
         if rest:
             groups.append(rest)
         groups = sorted(groups, key=lambda group: len(group))
@@ -148,12 +148,12 @@ def machine_of(trace):
     keys = [(order[node][0], node in right) for node in live]
     classes = bundled(keys, moves, trace.sorts)
     firsts = {}
-    for node, told in enumerate(classes):
-        if told not in firsts:
-            firsts[told] = node
+    for first, told in enumerate(classes):
+        firsts.setdefault(told, first)
     aheads, comes = [[node for node in firsts.values() if keys[node][0] == stage] for stage in (AHEAD, COME)]
     places = {classes[node]: place for side in (aheads, comes) for place, node in enumerate(side)}
-    starts = [number for number, node in enumerate(live) if node < len(trace.starts())]
+    many = len(trace.starts())
+    starts = [number for number, node in enumerate(live) if node < many]
     known = (keys, classes, moves, places)
     return Machine(
         tuple(sorted([places[classes[node]] for node in starts])),

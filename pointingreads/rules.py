@@ -26,8 +26,7 @@ def things_of(value, sort):
     """What the things of a value are behind its word, if it is of a kind of its sort, otherwise None."""
     if not (is_tuple(value, 1, 5) and type(value[0]) == str):
         return None
-    kinds = CONDITIONS if sort == "condition" else RULES
-    things = kinds.get(value[0])
+    things = CONDITIONS.get(value[0]) if sort == "condition" else RULES.get(value[0])
     return things if things is not None and len(things) + 1 == len(value) else None
 
 

@@ -121,6 +121,16 @@ class LanguageTest(unittest.TestCase):
                 self.assertIsInstance(node.right, ast.Constant, at)
                 self.assertLessEqual(node.right.value, 64, at)
 
+    def test_tables_at_module_level_are_only_read(self):
+        tables = {
+            node.targets[0].id for _, tree in self.trees.values() for node in tree.body
+            if isinstance(node, ast.Assign) and isinstance(node.value, (ast.Dict, ast.List))}
+        for at, node in self.each(ast.Name):
+            if node.id in tables and isinstance(node.ctx, ast.Load):
+                self.assertTrue(
+                    isinstance(node.above, (ast.Subscript, ast.Attribute)) or name_called(node.above) in (
+                        "list", "dict", "len", "sorted"), at)
+
     def test_module_level(self):
         for path, (_, tree) in self.trees.items():
             bound = []
