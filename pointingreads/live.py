@@ -124,7 +124,6 @@ class Live:
 
     def twin(self, holder):
         """Another copy with the same first row and steps."""
-        need_name(holder)
         found = Live(holder, self.first)
         found.has_steps(self.steps)
         return found

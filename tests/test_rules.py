@@ -89,6 +89,21 @@ STANDS = ("pick", "front", 8, ("and", ZERO, counted((8, 8))))
 HANDS = ("part", "ahead", ("pick", "end", 1, ANY), ("pick", "end", 8, ANY))
 
 
+def spoilt_parts(value):
+    """A condition or rule with each of its things but its marks spoilt, one at a time."""
+    for at, thing in enumerate(value):
+        if isinstance(thing, tuple) and not all(isinstance(told, int) for told in thing):
+            others = list(spoilt_parts(thing)) + [thing[:-1], thing + (0,), list(thing), None, thing[0]]
+        elif isinstance(thing, tuple):
+            others = [thing + (4,), thing + (-1,), None, 0, list(thing)] + [thing * 2] * bool(thing)
+        elif isinstance(thing, int):
+            others = [9, -1, None, str(thing), True]
+        else:
+            others = [thing + "s", "", None, 0, b"is"]
+        for other in others:
+            yield value[:at] + (other,) + value[at + 1:]
+
+
 class FormTest(Case):
     def test_faults(self):
         for value, fault in CONDITION_FAULTS:
@@ -108,6 +123,14 @@ class FormTest(Case):
             self.assertEqual(condition_fault(value), "form")
             self.assertEqual(rule_fault(value), "form")
             self.assertEqual(rule_fault(("only", value)), "form")
+
+    def test_a_spoilt_part(self):
+        rng = chance(509)
+        for _ in range(60):
+            condition, rule = chance_condition(rng, 3, 3), chance_rule(rng, 2, 1, 3)
+            for value, fault in ((condition, condition_fault), (rule, rule_fault)):
+                for other in spoilt_parts(value):
+                    self.assertEqual(fault(other), "form", other)
 
     def test_what_is_right(self):
         rng = chance(501)
@@ -159,7 +182,7 @@ class WordsTest(Case):
         rng = chance(502)
         for _ in range(250):
             condition = chance_condition(rng, rng.randint(0, 3), 4)
-            rule = chance_rule(rng, rng.randint(0, 1), 2, 4)
+            rule = chance_rule(rng, rng.randint(0, 2), rng.randint(0, 1), 4)
             for _ in range(6):
                 row = chance_row(rng, 4, 3, 3, 4)
                 word = marks_of(row)
@@ -174,7 +197,13 @@ class WordsTest(Case):
         self.assertEqual(such_entries(("until", "ahead", ("is", (0,)), ("is", (1,))), (((0, 1, 1, 2, 1), 1),)), (1, 2, 3))
         self.assertEqual(rule_point(("only", ("is", (2,))), (((0, 2), 1),)), 1)
         self.assertEqual(rule_point(("only", ("is", (2,))), (((0, 2), 2),)), None)
-        self.assertEqual(rule_point(("part", "behind", NAMED["first"], NAMED["first"]), (((0, 2), 2),)), 1)
+        behind = ("part", "behind", NAMED["first"], ("pick", "front", 1, ZERO))
+        self.assertEqual(rule_point(behind, (((0, 2), 2),)), 2)
+        self.assertEqual(rule_point(behind, (((0, 0, 2), 1),)), 1)
+        self.assertEqual(rule_point(behind, (((0, 2), 1),)), None)
+        ahead = ("part", "ahead", NAMED["last"], ("pick", "end", 1, ZERO))
+        self.assertEqual(rule_point(ahead, (((2, 0), 2),)), 1)
+        self.assertEqual(rule_point(ahead, (((2, 0), 1),)), None)
         for rule in NAMED.values():
             self.assertIsNone(rule_point(rule, ()))
 
