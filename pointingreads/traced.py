@@ -1,13 +1,14 @@
 """Least readers and least sieves of what a trace wants."""
 
 from pointingreads.errors import TooGreat
-from pointingreads.growing import reader_grown, stands_grown
+from pointingreads.growing import MOST_STANDS, reader_grown
 from pointingreads.machines import machine_of, moved_by, names_of, turned_machine
 from pointingreads.routes import least_routes
 from pointingreads.sifting import MOST_STATES
 
 # with so many tests of rows to come most great things are found to be too great; None is all
 TESTS = (60, 600, None)
+MOST_SEEN = 50000
 
 
 def sum_of_names(names, items):
@@ -16,6 +17,23 @@ def sum_of_names(names, items):
     for item in items:
         total = total ^ names[item]
     return total
+
+
+def shows_many(start, nexts, name_of, most):
+    """Whether more unlike names than most are found; nexts(thing) tells for each mark the thing behind it."""
+    seen = [start]
+    known = {start: True}
+    names = {}
+    at = 0
+    while at < len(seen) < MOST_SEEN and len(names) <= most:
+        names[name_of(seen[at])] = True
+        things = nexts(seen[at])
+        for thing in things:
+            if thing not in known:
+                known[thing] = True
+                seen.append(thing)
+        at += 1
+    return len(names) > most
 
 
 class Pointed:
@@ -51,6 +69,10 @@ class Pointed:
         behind = moved_by(self.machine.stays[mark], items)
         return (behind, tuple([told for _, _, told in found])), tuple([hand for _, hand, _ in found])
 
+    def nexts(self, one):
+        """For each mark the configuration behind it."""
+        return [self.grown(one, mark)[0] for mark in range(len(self.machine.stays))]
+
     def mould(self, one):
         """What configurations have in common exactly if they are alike."""
         held = sorted([sum_of_names(self.come_names, items) for items in one[1]])
@@ -82,8 +104,9 @@ def reader_traced(trace):
         picks = Pointed(machine, most)
         if picks.whole:
             break
-        # what some tests tell apart is unlike: this may be too great already
-        stands_grown(trace.sorts, picks)
+        # what some tests tell apart is unlike
+        if shows_many(picks.begin(), picks.nexts, picks.mould, MOST_STANDS):
+            raise TooGreat(MOST_STANDS)
     return reader_grown(trace.sorts, picks)
 
 
@@ -113,7 +136,13 @@ def states_told(machine):
         names, _, whole = names_of(machine, most)
         if whole:
             break
-        states_met(machine, names)
+        many = shows_many(
+            machine.start,
+            lambda items: [moved_by(rows, items) for rows in machine.stays],
+            lambda items: sum_of_names(names, items),
+            MOST_STATES)
+        if many:
+            raise TooGreat(MOST_STATES)
     return states_met(machine, names)
 
 
