@@ -54,12 +54,17 @@ def rows_behind(trace, node):
     ]
 
 
-def nodes_met(trace):
-    """The pairs (stage, item) that are met, and for each and each mark the numbers of the next ones."""
+def nodes_met(trace, most):
+    """The pairs (stage, item) that are met, and for each and each mark the numbers of the next ones.
+
+    None if there are more than most, unless most is None.
+    """
     order = [(AHEAD, item) for item in trace.starts()]
     numbers = {node: number for number, node in enumerate(order)}
     moves = []
     while len(moves) < len(order):
+        if most is not None and len(order) > most:
+            return None
         told = []
         rows = rows_behind(trace, order[len(moves)])
         for row in rows:
@@ -139,9 +144,9 @@ def bundled(keys, moves, sorts):
     return classes
 
 
-def machine_of(trace):
-    """The machine of a trace, without what is never right and with like items as one."""
-    order, moves = nodes_met(trace)
+def machine_of(trace, nodes):
+    """The machine of a trace and its nodes, without what is never right and with like items as one."""
+    order, moves = nodes
     goals = [node for node, (stage, item) in enumerate(order) if stage == COME and trace.is_right(item)]
     live, moves = live_moves(moves, goals)
     right = {node: True for node in goals}

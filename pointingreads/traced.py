@@ -1,14 +1,16 @@
 """Least readers and least sieves of what a trace wants."""
 
 from pointingreads.errors import TooGreat
+from pointingreads.glimpses import shows_more
 from pointingreads.growing import MOST_STANDS, reader_grown
-from pointingreads.machines import machine_of, moved_by, names_of, turned_machine
+from pointingreads.machines import machine_of, moved_by, names_of, nodes_met, turned_machine
 from pointingreads.routes import least_routes
 from pointingreads.sifting import MOST_STATES
 
 # with so many tests of rows to come most great things are found to be too great; None is all
 TESTS = (60, 600, None)
 MOST_SEEN = 50000
+MANY_NODES = 20000
 
 
 def sum_of_names(names, items):
@@ -94,12 +96,22 @@ class Pointed:
         return pointed[0] if pointed else -1
 
 
+def machine_told(trace, most, with_row):
+    """The machine of a trace; TooGreat(most) if short rows show that it has too many classes."""
+    nodes = nodes_met(trace, MANY_NODES)
+    if nodes is None:
+        if shows_more(trace, most, with_row):
+            raise TooGreat(most)
+        nodes = nodes_met(trace, None)
+    return machine_of(trace, nodes)
+
+
 def reader_traced(trace):
     """The least reader that points at the wanted entry, of which a row has at most one.
 
     TooGreat(200), then TooGreat(8).
     """
-    machine = machine_of(trace)
+    machine = machine_told(trace, MOST_STANDS, True)
     for most in TESTS:
         picks = Pointed(machine, most)
         if picks.whole:
@@ -153,7 +165,7 @@ def are_odd(items, others):
 
 def sieve_traced(trace):
     """The least sieve that picks the wanted entries, any number of them in a row; TooGreat(64)."""
-    machine = machine_of(trace)
+    machine = machine_told(trace, MOST_STATES, False)
     lefts, left_table = states_told(machine)
     rights, right_table = states_told(turned_machine(machine))
     tables = [{item: True for item in right} for right in rights]

@@ -141,9 +141,37 @@ class TwoTest(Case):
         self.refuses(TooGreat, {"most": 8}, part_ahead, last_but(0), eighth)
         self.refuses(TooGreat, {"most": 200}, reader_else, counting(199, 0), part_ahead(LAST, LAST))
 
+    def test_many_stands_together(self):
+        # more pairs of stands than are looked at without a glimpse at short rows
+        always = always_one(199)
+        self.assertEqual(stands_needed(always), 200)
+        other = counting(198, 1)
+        least = least_reader(always)
+        self.assertEqual(reader_else(always, other), least)
+        self.assertEqual(reader_if(other, always), least_reader(other))
+        self.assertEqual(reader_where(always, always), least)
+        self.refuses(TooGreat, {"most": 200}, reader_if, always, other)
+        rng = chance(518)
+        for _ in range(3):
+            reader, other = holding_reader(rng, 2, 120, 4), holding_reader(rng, 2, 120, 4)
+            for function in TWO:
+                self.refuses(TooGreat, {"most": 200}, function, reader, other)
+            self.refuses(TooGreat, {"most": 200}, between, reader, other, reader)
+
     def test_wrong_ones(self):
         for function in TWO:
             self.refuses_two(function)
+
+
+def always_one(many):
+    """A reader of two marks that points at the last mark 0 whose number is 0 modulo many, else at the first entry."""
+    steps = []
+    for stand in range(many + 1):
+        count = max(stand - 1, 0)
+        zero = (count + 1) % many
+        steps.append((
+            (1 + zero, (-1,) if zero == 0 or stand == 0 else (0,)), (1 + count, (-1,) if stand == 0 else (0,))))
+    return (2, (0,) + (1,) * many, tuple(steps), (-1,) + (0,) * many)
 
 
 def last_but(many):
