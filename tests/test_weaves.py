@@ -1,6 +1,9 @@
 """[72], [73], [74], with [13]: readers put together, and readers of other rows and of parts of rows."""
 
+from pointingreads.critical import Losses, critical_sieve
 from pointingreads.errors import BadMark, BadReader, BadSorts, TooGreat
+from pointingreads.glimpses import shows_more
+from pointingreads.joints import Behind
 from pointingreads.least import least_reader, stands_needed
 from pointingreads.likes import are_alike
 from pointingreads.named import NAMES, reader_named
@@ -152,11 +155,28 @@ class TwoTest(Case):
         self.assertEqual(reader_where(always, always), least)
         self.refuses(TooGreat, {"most": 200}, reader_if, always, other)
         rng = chance(518)
-        for _ in range(3):
-            reader, other = holding_reader(rng, 2, 120, 4), holding_reader(rng, 2, 120, 4)
-            for function in TWO:
-                self.refuses(TooGreat, {"most": 200}, function, reader, other)
-            self.refuses(TooGreat, {"most": 200}, between, reader, other, reader)
+        reader, other = holding_reader(rng, 2, 120, 4), holding_reader(rng, 2, 120, 4)
+        for function in TWO:
+            self.refuses(TooGreat, {"most": 200}, function, reader, other)
+        self.refuses(TooGreat, {"most": 200}, between, reader, other, reader)
+
+    def test_glimpses(self):
+        # what short rows show is never more than there is, and often as much
+        rng = chance(519)
+        shown = 0
+        for _ in range(60):
+            sorts = rng.randint(1, 4)
+            reader, other = [least_reader(holding_reader(rng, sorts, rng.randint(2, 5), 2)) for _ in range(2)]
+            stands = len(part_behind(reader, other)[1])
+            self.assertFalse(shows_more(Behind(reader, other), stands, True))
+            shown += shows_more(Behind(reader, other), stands - 1, True)
+            try:
+                sieve = critical_sieve(reader)
+            except TooGreat:
+                continue
+            self.assertFalse(shows_more(Losses(reader), len(sieve[1]), False))
+            shown += shows_more(Losses(reader), len(sieve[1]) - 1, False)
+        self.assertGreater(shown, 80)
 
     def test_wrong_ones(self):
         for function in TWO:
